@@ -1,0 +1,102 @@
+"""Point 1: wrong arguments of every function, and what holds of every function with right ones."""
+
+import copy
+import unittest
+from itertools import combinations, product
+
+from tests.calls import CALLS, ERRORS, ODD, RIGHT, WRONG, WRONG_YARDS, YARD
+from walledin.errors import BadYard, WallError
+
+
+def right_rows(kinds):
+    """Rows of right arguments for some kinds; two walls that must be unlike are so."""
+    for row in product(*[RIGHT[kind] for kind in kinds]):
+        if "other" not in kinds or row[kinds.index("other")] != row[kinds.index("other") - 1]:
+            yield row
+
+
+def raised(function, row):
+    """The error that a call raises, None if it raises none."""
+    try:
+        function(*row)
+    except WallError as error:
+        return error
+    return None
+
+
+class WrongArguments(unittest.TestCase):
+    def expect(self, function, row, kind):
+        error = raised(function, row)
+        self.assertIs(type(error), ERRORS[kind], f"{function.__name__}{row!r}")
+
+    def test_each_wrong_value(self):
+        for function, kinds in CALLS:
+            right = next(right_rows(kinds))
+            for at, kind in enumerate(kinds):
+                for value in WRONG[kind]:
+                    self.expect(function, right[:at] + (value,) + right[at + 1:], kind)
+
+    def test_two_wrong_values_at_once(self):
+        for function, kinds in CALLS:
+            right = next(right_rows(kinds))
+            for one, other in combinations(range(len(kinds)), 2):
+                for first, second in product(WRONG[kinds[one]][::2], WRONG[kinds[other]][::3]):
+                    row = list(right)
+                    row[one], row[other] = first, second
+                    self.expect(function, tuple(row), kinds[one])
+
+    def test_all_wrong_at_once(self):
+        for function, kinds in CALLS:
+            for value in ODD:
+                self.expect(function, (value,) * len(kinds), kinds[0])
+
+    def test_index_of_bad_yards(self):
+        for function, kinds in CALLS:
+            right = next(right_rows(kinds))
+            for at, kind in enumerate(kinds):
+                if kind != "yard":
+                    continue
+                for value in ODD:
+                    self.assertIsNone(raised(function, right[:at] + (value,) + right[at + 1:]).index)
+                for value, index in WRONG_YARDS:
+                    error = raised(function, right[:at] + (value,) + right[at + 1:])
+                    self.assertIs(type(error), BadYard)
+                    self.assertEqual(error.index, index, value)
+
+    def test_greatest_yards_are_right(self):
+        for function, kinds in CALLS:
+            if kinds == ("yard",):
+                function((1, ()))
+                function((9, ()))
+                function((9, ((0, 8, 0),) * 12))
+
+
+class RightArguments(unittest.TestCase):
+    def test_no_error_and_the_same_answer_again(self):
+        for function, kinds in CALLS:
+            for row in right_rows(kinds):
+                kept = copy.deepcopy(row)
+                answer = function(*row)
+                self.assertEqual(row, kept)
+                self.assertEqual(repr(function(*kept)), repr(answer), function.__name__)
+
+    def test_returned_lists_are_new(self):
+        for function, kinds in CALLS:
+            for row in right_rows(kinds):
+                answer = function(*row)
+                if isinstance(answer, list):
+                    kept = list(answer)
+                    answer.append(None)
+                    self.assertEqual(function(*row), kept)
+
+    def test_wrong_arguments_are_not_changed(self):
+        for function, kinds in CALLS:
+            for value in ({0: [1]}, [0, [1]], ([0], {1: 2})):
+                kept = copy.deepcopy(value)
+                raised(function, (value,) * len(kinds))
+                raised(function, (YARD,) + (value,) * (len(kinds) - 1))
+                self.assertEqual(value, kept)
+
+
+if __name__ == "__main__":
+    unittest.main()

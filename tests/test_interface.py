@@ -1,0 +1,96 @@
+"""Each name of the interface stands in its file, with its arguments; and what the files of the package may contain."""
+
+import ast
+import builtins
+import inspect
+import unittest
+from importlib import import_module
+from pathlib import Path
+
+PACKAGE = Path(__file__).resolve().parent.parent / "walledin"
+
+INTERFACE = {
+    "yards": ["sides(yard, number)", "rooms_open_to(yard, lot)", "rooms_come_to(yard, lot)",
+              "steps_between(yard, lot, one, other)", "touching(yard, room)"],
+    "orders": ["is_order(yard, order)", "can_walk(yard, order, room)", "stuck_at(yard, order)",
+               "stands(yard, order)", "has_order(yard)", "first_order(yard)", "last_order(yard)"],
+    "lots": ["is_open(yard, lot)", "heart(yard, lot)", "all_gaps(yard)", "can_go(yard, lot)",
+             "can_come(yard, lot)", "open_lots(yard)", "count_open(yard)", "only_open(yard, lot)"],
+}
+
+LIBRARY = {"math": {"gcd"}, "itertools": {"combinations"}}
+
+
+def trees():
+    return [(path, ast.parse(path.read_text())) for path in sorted(PACKAGE.glob("*.py"))]
+
+
+class Interface(unittest.TestCase):
+    def test_names_and_arguments(self):
+        for name, told in INTERFACE.items():
+            module = import_module(f"walledin.{name}")
+            for row in told:
+                function = getattr(module, row.partition("(")[0])
+                self.assertEqual(function.__module__, module.__name__)
+                self.assertEqual(function.__name__ + str(inspect.signature(function)), row)
+
+
+class Files(unittest.TestCase):
+    def test_folder(self):
+        names = [path.name for path in PACKAGE.iterdir() if path.name != "__pycache__"]
+        self.assertTrue(all(name.endswith(".py") and name == name.lower() for name in names), names)
+        self.assertIn("__init__.py", names)
+
+    def test_sizes_and_characters(self):
+        for path in sorted(PACKAGE.glob("*.py")):
+            text = path.read_text()
+            lines = text.split("\n")
+            self.assertLess(len(lines), 400, path.name)
+            self.assertLessEqual(max(len(line) for line in lines), 120, path.name)
+            self.assertTrue(all(" " <= sign <= "~" or sign == "\n" for sign in text), path.name)
+            self.assertNotIn("_" + "wall", text.replace("_walls", ""), path.name)
+
+    def test_functions_are_short(self):
+        for path, tree in trees():
+            for node in ast.walk(tree):
+                if isinstance(node, ast.FunctionDef):
+                    self.assertLessEqual(node.end_lineno - node.lineno, 39, f"{path.name}: {node.name}")
+                    self.assertFalse(node.decorator_list, f"{path.name}: {node.name}")
+
+    def test_imports(self):
+        for path, tree in trees():
+            for node in ast.walk(tree):
+                self.assertNotIsInstance(node, ast.Import, path.name)
+                if not isinstance(node, ast.ImportFrom):
+                    continue
+                names = {alias.name for alias in node.names}
+                if node.module in LIBRARY:
+                    self.assertLessEqual(names, LIBRARY[node.module], path.name)
+                    continue
+                folder, _, name = node.module.partition(".")
+                self.assertEqual(folder, "walledin", path.name)
+                defined = {part.name for part in ast.parse((PACKAGE / f"{name}.py").read_text()).body
+                           if isinstance(part, (ast.FunctionDef, ast.ClassDef))}
+                self.assertLessEqual(names, defined, path.name)
+
+    def test_no_name_has_two_meanings(self):
+        for path, tree in trees():
+            imported = {alias.name for node in ast.walk(tree) if isinstance(node, ast.ImportFrom)
+                        for alias in node.names}
+            bound = {node.id for node in ast.walk(tree)
+                     if isinstance(node, ast.Name) and isinstance(node.ctx, ast.Store)}
+            bound |= {node.arg for node in ast.walk(tree) if isinstance(node, ast.arg)}
+            bound |= {node.name for node in ast.walk(tree) if isinstance(node, (ast.FunctionDef, ast.ClassDef))}
+            self.assertFalse(bound & imported, path.name)
+            self.assertFalse(bound & set(dir(builtins)), path.name)
+
+    def test_no_floats_sets_or_try(self):
+        barred = (ast.Try, ast.Set, ast.SetComp, ast.Div, ast.Global, ast.With, ast.AsyncFunctionDef, ast.Await)
+        for path, tree in trees():
+            for node in ast.walk(tree):
+                self.assertNotIsInstance(node, barred, path.name)
+                self.assertFalse(isinstance(node, ast.Constant) and isinstance(node.value, float), path.name)
+
+
+if __name__ == "__main__":
+    unittest.main()

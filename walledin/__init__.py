@@ -1,0 +1,1 @@
+"""Walledin: walls set one after the other."""

@@ -1,0 +1,76 @@
+"""What the arguments of the package's functions must be: each check raises the error of its kind of value."""
+
+from walledin.errors import BadLot, BadOrder, BadRoom, BadWall, BadYard
+
+MOST_ROOMS = 9
+MOST_WALLS = 12
+
+
+def whole(value):
+    """Tell whether a value is an integer."""
+    # Python counts True and False among the integers, the package does not.
+    return isinstance(value, int) and not isinstance(value, bool)
+
+
+def within(value, low, high):
+    """Tell whether a value is an integer from low to high."""
+    return whole(value) and low <= value <= high
+
+
+def wall_fits(value, many):
+    """Tell whether a value is a wall between two of so many rooms."""
+    if not isinstance(value, tuple) or len(value) != 3:
+        return False
+    low, high, side = value
+    return within(low, 0, many - 1) and within(high, low + 1, many - 1) and within(side, 0, 2)
+
+
+def rises(value, many):
+    """Tell whether a value is a rising tuple of integers from 0 to many - 1."""
+    if not isinstance(value, tuple):
+        return False
+    low = 0
+    for item in value:
+        if not within(item, low, many - 1):
+            return False
+        low = item + 1
+    return True
+
+
+def yard_check(yard):
+    """Raise BadYard for a value that is no yard."""
+    if not isinstance(yard, tuple) or len(yard) != 2:
+        raise BadYard(None)
+    many, walls = yard
+    if not within(many, 1, MOST_ROOMS) or not isinstance(walls, tuple) or len(walls) > MOST_WALLS:
+        raise BadYard(None)
+    for index, wall in enumerate(walls):
+        if not wall_fits(wall, many):
+            raise BadYard(index)
+
+
+def wall_check(yard, number):
+    """Raise BadWall for a value that is no number of a wall."""
+    if not within(number, 0, len(yard[1]) - 1):
+        raise BadWall()
+
+
+def lot_check(yard, lot):
+    """Raise BadLot for a value that is no lot."""
+    if not rises(lot, len(yard[1])):
+        raise BadLot()
+
+
+def room_check(yard, room):
+    """Raise BadRoom for a value that is no room."""
+    if not within(room, 0, yard[0] - 1):
+        raise BadRoom()
+
+
+def order_check(yard, order):
+    """Raise BadOrder for a value that is no order."""
+    many = len(yard[1])
+    if not isinstance(order, tuple) or not all(within(number, 0, many - 1) for number in order):
+        raise BadOrder()
+    if sorted(order) != list(range(many)):
+        raise BadOrder()

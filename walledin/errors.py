@@ -1,0 +1,41 @@
+"""The errors of the package."""
+
+
+class WallError(ValueError):
+    """The base class of all errors of the package."""
+
+
+class BadYard(WallError):
+    """A value that is no yard: index tells the first item that is no wall, None that there are no items to look at."""
+
+    def __init__(self, index):
+        WallError.__init__(self, f"no yard, index {index}")
+        self.index = index
+
+
+class BadLot(WallError):
+    """A value that is no lot."""
+
+
+class BadOrder(WallError):
+    """A value that is no order."""
+
+
+class BadRoom(WallError):
+    """A value that is no room, or no tuple of rooms."""
+
+
+class BadWall(WallError):
+    """A value that is no number of a wall."""
+
+
+class BadNumber(WallError):
+    """A value that is not one of the numbers that are allowed."""
+
+
+class TooMany(WallError):
+    """More than there may be: most tells how many that are."""
+
+    def __init__(self, most):
+        WallError.__init__(self, f"more than {most}")
+        self.most = most
