@@ -99,3 +99,64 @@ def with_side(yard, number, side):
     walls = list(yard[1])
     walls[number] = walls[number][:2] + (side,)
     return (yard[0], tuple(walls))
+
+
+def is_trap(yard, rooms):
+    """Whether some rooms, in any number, are a trap."""
+    if not rooms or 0 in rooms:
+        return False
+    if not any(low in rooms or high in rooms for low, high, _ in yard[1]):
+        return False
+    for wall in yard[1]:
+        for room, other in ((wall[0], wall[1]), (wall[1], wall[0])):
+            if room in rooms and other not in rooms and other in setting_rooms(wall):
+                return False
+    return True
+
+
+def every_rooms(yard):
+    """All rising tuples of rooms, those with fewer rooms first, otherwise as Python compares tuples."""
+    many = yard[0]
+    return [rooms for size in range(many + 1) for rooms in combinations(range(many), size)]
+
+
+def traps(yard):
+    return [rooms for rooms in every_rooms(yard) if is_trap(yard, rooms)]
+
+
+def is_come_to(yard, number, gone=()):
+    """Whether a wall is come to, some other walls left out."""
+    others = [other for other in numbers(yard) if other != number and other not in gone]
+    return bool(setting_rooms(yard[1][number]) & come(yard, others))
+
+
+def come_to(yard, gone=()):
+    return tuple(number for number in numbers(yard) if number not in gone and is_come_to(yard, number, gone))
+
+
+def is_way(yard, gaps, number):
+    """Whether a row of gaps leads to a wall."""
+    goals = setting_rooms(yard[1][number])
+    rooms = [0]
+    for gap in gaps:
+        low, high, _ = yard[1][gap]
+        if rooms[-1] in goals or rooms[-1] not in setting_rooms(yard[1][gap]):
+            return False
+        rooms.append(low + high - rooms[-1])
+    return rooms[-1] in goals and len(set(rooms)) == len(rooms)
+
+
+def ways(yard, number):
+    others = [other for other in numbers(yard) if other != number]
+    rows = [gaps for size in range(len(others) + 1) for gaps in permutations(others, size)]
+    return [gaps + (number,) for gaps in rows if is_way(yard, gaps, number)]
+
+
+def growths(yard):
+    """The orders of the walls that are come to alone, by the numbers of the whole yard, read from their ends."""
+    lot = come_to(yard)
+    return [tuple(lot[number] for number in order[::-1]) for order in good_orders(only(yard, lot))]
+
+
+def ahead(yard, one, other):
+    return is_come_to(yard, other) and not is_come_to(yard, other, (one,))

@@ -63,6 +63,25 @@ class WrongArguments(unittest.TestCase):
                     self.assertIs(type(error), BadYard)
                     self.assertEqual(error.index, index, value)
 
+    def test_no_number_of_a_wall_without_walls(self):
+        for function, kinds in CALLS:
+            if len(kinds) > 1 and kinds[1] == "number":
+                for value in (0, 1, -1, None):
+                    self.expect(function, ((1, ()), value) + (1,) * (len(kinds) - 2), "number")
+
+    def test_yards_without_an_order(self):
+        back = (3, ((0, 1, 0), (1, 2, 1)))
+        right = {"yard": back, "number": 0, "other": 1, "lot": (1,), "room": 2, "order": (0, 1), "rooms": (2,),
+                 "rank": 0, "side": 0, "walls": ()}
+        for function, kinds in CALLS:
+            for at, kind in enumerate(kinds):
+                for value in WRONG[kind]:
+                    row = [right[kind] for kind in kinds]
+                    row[at] = value
+                    # What is too short an order elsewhere is one of this yard.
+                    if repr(value) != repr(right[kind]):
+                        self.expect(function, tuple(row), kind)
+
     def test_greatest_yards_are_right(self):
         for function, kinds in CALLS:
             if kinds == ("yard",):

@@ -5,7 +5,7 @@ import unittest
 from walledin import errors
 from walledin.errors import WallError
 
-PLAIN = ["BadLot", "BadOrder", "BadRoom", "BadWall", "BadNumber"]
+PLAIN = ["BadLot", "BadOrder", "BadRoom", "BadWall", "BadNumber", "BadWalls"]
 
 
 class Errors(unittest.TestCase):

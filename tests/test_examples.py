@@ -33,6 +33,45 @@ class Examples(unittest.TestCase):
              can_come(line, (0,)), all_gaps(line), only_open(line, (1,))],
             [[(), (0,), (0, 1)], (1, 1, 1), False, (), (1,), (1,), (0, 1), (3, ((1, 2, 0),))])
 
+    def test_traps(self):
+        from walledin.traps import cures, greatest_trap, is_trap, least_trap_with, least_traps, traps, walls_around
+        back = (3, ((0, 1, 0), (1, 2, 1)))
+        self.assertEqual(
+            [traps(back), greatest_trap(back), least_traps(back), is_trap(back, (1, 2)), least_trap_with(back, 2),
+             cures(back), walls_around(back, (1,))],
+            [[(2,)], (2,), [(2,)], False, (2,), (1,), (0, 1)])
+
+    def test_ways(self):
+        from walledin.ways import (always_ahead, both_first, free_ones, gate_table, gates, greatest_back, hanging_on,
+                                   last_gate, least_back, places, shortest_way, ways)
+        ring = (3, ((0, 1, 0), (1, 2, 2), (0, 2, 0), (1, 2, 0)))
+        line = (4, ((0, 1, 0), (1, 2, 0), (2, 3, 0)))
+        self.assertEqual(
+            [ways(ring, 3), shortest_way(ring, 1), least_back(line, 2), greatest_back(ring, 0), places(ring, 3),
+             gates(line, 2), last_gate(line, 2), gate_table(line), hanging_on(line, 0), free_ones(line),
+             always_ahead(line, 0, 2), both_first(ring, 0, 3)],
+            [[(0, 3), (2, 1, 3)], (0, 1), 3, 4, (0, 1, 2), (0, 1), 1, (None, 0, 1), (1, 2), (2,), True, True])
+
+    def test_counts(self):
+        from walledin.counts import (ahead_chance, count_orders, mean_place, next_order, order_at, place_counts,
+                                     rank_of, swaps)
+        star = (4, ((0, 1, 0), (0, 2, 0), (0, 3, 0)))
+        self.assertEqual(
+            [count_orders(star), order_at(star, 5), rank_of(star, (1, 0, 2)), next_order(star, (1, 0, 2)),
+             place_counts(star, 1), mean_place(star, 0), ahead_chance(star, 0, 1), swaps(star, (0, 1, 2))],
+            [6, (2, 1, 0), 2, (1, 2, 0), (2, 2, 2), (1, 1), (1, 2), (0, 1)])
+
+    def test_sameness(self):
+        from walledin.sameness import (added, fewest_added, least_added, loose, orders_lost, orders_without,
+                                       same_orders, taken_out, tight)
+        line = (3, ((0, 1, 0), (1, 2, 0)))
+        self.assertEqual(
+            [same_orders(line, (3, ((0, 1, 2), (1, 2, 2)))), orders_lost(line, 1, 1), tight((2, ((0, 1, 2),))),
+             loose((2, ((0, 1, 0),))), added(line, ((0, 2, 1),)), taken_out(line, 0), orders_without(line, 0),
+             fewest_added((3, ((1, 2, 0),))), least_added((3, ((1, 2, 0),)))],
+            [True, 1, (2, ((0, 1, 0),)), (2, ((0, 1, 2),)), (3, ((0, 1, 0), (1, 2, 0), (0, 2, 1))),
+             (3, ((1, 2, 0),)), 0, 1, ((0, 1, 0),)])
+
 
 if __name__ == "__main__":
     unittest.main()

@@ -16,6 +16,18 @@ INTERFACE = {
                "stands(yard, order)", "has_order(yard)", "first_order(yard)", "last_order(yard)"],
     "lots": ["is_open(yard, lot)", "heart(yard, lot)", "all_gaps(yard)", "can_go(yard, lot)",
              "can_come(yard, lot)", "open_lots(yard)", "count_open(yard)", "only_open(yard, lot)"],
+    "traps": ["is_trap(yard, rooms)", "traps(yard)", "least_traps(yard)", "greatest_trap(yard)",
+              "least_trap_with(yard, room)", "walls_around(yard, rooms)", "cures(yard)"],
+    "ways": ["ways(yard, number)", "shortest_way(yard, number)", "least_back(yard, number)",
+             "greatest_back(yard, number)", "places(yard, number)", "always_ahead(yard, one, other)",
+             "gates(yard, number)", "last_gate(yard, number)", "gate_table(yard)", "hanging_on(yard, number)",
+             "free_ones(yard)", "both_first(yard, one, other)"],
+    "counts": ["count_orders(yard)", "order_at(yard, rank)", "rank_of(yard, order)", "next_order(yard, order)",
+               "place_counts(yard, number)", "mean_place(yard, number)", "ahead_chance(yard, one, other)",
+               "swaps(yard, order)"],
+    "sameness": ["same_orders(one, other)", "orders_lost(yard, number, side)", "tight(yard)", "loose(yard)",
+                 "added(yard, walls)", "taken_out(yard, number)", "orders_without(yard, number)",
+                 "fewest_added(yard)", "least_added(yard)"],
 }
 
 LIBRARY = {"math": {"gcd"}, "itertools": {"combinations"}}
@@ -23,6 +35,17 @@ LIBRARY = {"math": {"gcd"}, "itertools": {"combinations"}}
 
 def trees():
     return [(path, ast.parse(path.read_text())) for path in sorted(PACKAGE.glob("*.py"))]
+
+
+def defined(path):
+    """The names that a file itself gives to functions, classes and values."""
+    names = set()
+    for part in ast.parse(path.read_text()).body:
+        if isinstance(part, ast.Assign):
+            names.update(target.id for target in part.targets)
+        elif isinstance(part, (ast.FunctionDef, ast.ClassDef)):
+            names.add(part.name)
+    return names
 
 
 class Interface(unittest.TestCase):
@@ -69,9 +92,7 @@ class Files(unittest.TestCase):
                     continue
                 folder, _, name = node.module.partition(".")
                 self.assertEqual(folder, "walledin", path.name)
-                defined = {part.name for part in ast.parse((PACKAGE / f"{name}.py").read_text()).body
-                           if isinstance(part, (ast.FunctionDef, ast.ClassDef))}
-                self.assertLessEqual(names, defined, path.name)
+                self.assertLessEqual(names, defined(PACKAGE / f"{name}.py"), path.name)
 
     def test_no_name_has_two_meanings(self):
         for path, tree in trees():
@@ -82,6 +103,8 @@ class Files(unittest.TestCase):
             bound |= {node.arg for node in ast.walk(tree) if isinstance(node, ast.arg)}
             bound |= {node.name for node in ast.walk(tree) if isinstance(node, (ast.FunctionDef, ast.ClassDef))}
             self.assertFalse(bound & imported, path.name)
+            read = {node.id for node in ast.walk(tree) if isinstance(node, ast.Name)}
+            self.assertLessEqual(imported, read, path.name)
             self.assertFalse(bound & set(dir(builtins)), path.name)
 
     def test_no_floats_sets_or_try(self):

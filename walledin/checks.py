@@ -1,6 +1,6 @@
 """What the arguments of the package's functions must be: each check raises the error of its kind of value."""
 
-from walledin.errors import BadLot, BadOrder, BadRoom, BadWall, BadYard
+from walledin.errors import BadLot, BadNumber, BadOrder, BadRoom, BadWall, BadWalls, BadYard
 
 MOST_ROOMS = 9
 MOST_WALLS = 12
@@ -55,6 +55,20 @@ def wall_check(yard, number):
         raise BadWall()
 
 
+def unlike_check(yard, one, other):
+    """Raise BadWall for two values that are not the numbers of two unlike walls."""
+    wall_check(yard, one)
+    wall_check(yard, other)
+    if one == other:
+        raise BadWall()
+
+
+def walls_check(yard, walls):
+    """Raise BadWalls for a value that is no tuple of walls between rooms of a yard."""
+    if not isinstance(walls, tuple) or not all(wall_fits(item, yard[0]) for item in walls):
+        raise BadWalls()
+
+
 def lot_check(yard, lot):
     """Raise BadLot for a value that is no lot."""
     if not rises(lot, len(yard[1])):
@@ -67,6 +81,12 @@ def room_check(yard, room):
         raise BadRoom()
 
 
+def rooms_check(yard, rooms):
+    """Raise BadRoom for a value that is no rising tuple of rooms."""
+    if not rises(rooms, yard[0]):
+        raise BadRoom()
+
+
 def order_check(yard, order):
     """Raise BadOrder for a value that is no order."""
     many = len(yard[1])
@@ -74,3 +94,15 @@ def order_check(yard, order):
         raise BadOrder()
     if sorted(order) != list(range(many)):
         raise BadOrder()
+
+
+def rank_check(rank):
+    """Raise BadNumber for a value that is no integer from 0 on."""
+    if not whole(rank) or rank < 0:
+        raise BadNumber()
+
+
+def side_check(side):
+    """Raise BadNumber for a value that is not the one side 0 or the other side 1."""
+    if not within(side, 0, 1):
+        raise BadNumber()

@@ -29,6 +29,10 @@ class BadWall(WallError):
     """A value that is no number of a wall."""
 
 
+class BadWalls(WallError):
+    """A value that is no tuple of walls."""
+
+
 class BadNumber(WallError):
     """A value that is not one of the numbers that are allowed."""
 

@@ -23,7 +23,7 @@ def growth(yard):
         grown = {}
         for lot in rooms:
             comers[lot] = [number for number in every_number(yard)
-                           if (lot >> number) & 1 == 0 and near[number] & rooms[lot]]
+                           if ((lot >> number) & 1) == 0 and near[number] & rooms[lot]]
             for number in comers[lot]:
                 grown[lot | (1 << number)] = rooms[lot] | ends[number]
         rooms = grown

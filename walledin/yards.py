@@ -26,6 +26,12 @@ def without(lot, number):
     return tuple(other for other in lot if other != number)
 
 
+def with_side(yard, number, side):
+    """Return the yard with another side of one wall."""
+    low, high, _ = yard[1][number]
+    return (yard[0], yard[1][:number] + ((low, high, side),) + yard[1][number + 1:])
+
+
 def told_steps(yard, lot):
     """Return the pairs (here, there) of rooms for the gaps of a lot, each gap from its wall's sides alone."""
     steps = []

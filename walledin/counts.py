@@ -1,0 +1,137 @@
+"""All orders that can be walked: how many there are, which one stands where, and where walls stand in them."""
+
+from math import gcd
+
+from walledin.checks import order_check, rank_check, unlike_check, wall_check, yard_check
+from walledin.lots import growth, lot_of
+from walledin.orders import is_order
+
+
+def all_bits(yard):
+    """Return the number of growth that stands for all walls."""
+    return (1 << len(yard[1])) - 1
+
+
+def grown_counts(comers):
+    """Return a dict of all open lots of growth, each with how many orders of its walls alone can be walked."""
+    found = {0: 1}
+    for lot in comers:
+        for number in comers[lot]:
+            more = lot | (1 << number)
+            found[more] = found.get(more, 0) + found[lot]
+    return found
+
+
+def rest_counts(yard, comers):
+    """Return a dict of all open lots of growth, each with in how many orders the other walls can stand ahead of it."""
+    found = {}
+    for lot in list(comers)[::-1]:
+        if lot == all_bits(yard):
+            found[lot] = 1
+        else:
+            found[lot] = sum(found[lot | (1 << number)] for number in comers[lot])
+    return found
+
+
+def orders_behind(yard, number):
+    """Return pairs of a lot of growth and of in how many orders just its walls stand behind a wall."""
+    comers = growth(yard)
+    grown = grown_counts(comers)
+    rest = rest_counts(yard, comers)
+    return [(lot, grown[lot] * rest[lot | (1 << number)]) for lot in comers if number in comers[lot]]
+
+
+def ratio(top, low):
+    """Return the ratio of two numbers, the second of which is above 0."""
+    common = gcd(top, low)
+    return (top // common, low // common)
+
+
+def count_orders(yard):
+    """Return how many orders can be walked."""
+    yard_check(yard)
+    return grown_counts(growth(yard)).get(all_bits(yard), 0)
+
+
+def order_at(yard, rank):
+    """Return the order that so many orders stand ahead of, None if there are not so many."""
+    yard_check(yard)
+    rank_check(rank)
+    grown = grown_counts(growth(yard))
+    left = all_bits(yard)
+    if rank >= grown.get(left, 0):
+        return None
+    order = []
+    while left:
+        for number in lot_of(left):
+            chosen = number
+            many = grown.get(left - (1 << number), 0)
+            if rank < many:
+                break
+            rank -= many
+        order.append(chosen)
+        left -= 1 << chosen
+    return tuple(order)
+
+
+def rank_of(yard, order):
+    """Return how many orders stand ahead of one, None for an order that cannot be walked."""
+    if not is_order(yard, order):
+        return None
+    grown = grown_counts(growth(yard))
+    left = all_bits(yard)
+    rank = 0
+    for number in order:
+        rank += sum(grown.get(left - (1 << other), 0) for other in lot_of(left) if other < number)
+        left -= 1 << number
+    return rank
+
+
+def next_order(yard, order):
+    """Return the order behind one, None for the last one and for one that cannot be walked."""
+    rank = rank_of(yard, order)
+    if rank is None:
+        return None
+    return order_at(yard, rank + 1)
+
+
+def place_counts(yard, number):
+    """Return the tuple, for each place, of in how many orders a wall stands there."""
+    yard_check(yard)
+    wall_check(yard, number)
+    many = len(yard[1])
+    counts = [0] * many
+    for lot, orders in orders_behind(yard, number):
+        counts[many - 1 - len(lot_of(lot))] += orders
+    return tuple(counts)
+
+
+def mean_place(yard, number):
+    """Return the mean place of a wall over all orders, None if there is no order."""
+    counts = place_counts(yard, number)
+    if sum(counts) == 0:
+        return None
+    return ratio(sum(place * orders for place, orders in enumerate(counts)), sum(counts))
+
+
+def ahead_chance(yard, one, other):
+    """Return the part of all orders in which a wall stands ahead of another one, None if there is no order."""
+    yard_check(yard)
+    unlike_check(yard, one, other)
+    rows = orders_behind(yard, one)
+    total = sum(orders for _, orders in rows)
+    if total == 0:
+        return None
+    return ratio(sum(orders for lot, orders in rows if (lot >> other) & 1), total)
+
+
+def swaps(yard, order):
+    """Return the rising tuple of the places whose wall can be exchanged with the next one for an order to be walked."""
+    yard_check(yard)
+    order_check(yard, order)
+    found = []
+    for place in range(len(order) - 1):
+        changed = order[:place] + (order[place + 1], order[place]) + order[place + 2:]
+        if is_order(yard, changed):
+            found.append(place)
+    return tuple(found)
