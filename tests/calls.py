@@ -1,6 +1,6 @@
 """All functions of the interface, each with the kinds of its arguments, and right and wrong values of each kind."""
 
-from walledin import counts, lots, orders, sameness, traps, ways, yards
+from walledin import counts, days, dues, lots, orders, sameness, spans, traps, trees, ways, yards
 from walledin.errors import BadLot, BadNumber, BadOrder, BadRoom, BadWall, BadWalls, BadYard
 
 YARD = (4, ((0, 1, 0), (1, 2, 2), (0, 3, 0)))
@@ -62,6 +62,37 @@ CALLS = [
     (sameness.orders_without, ("yard", "number")),
     (sameness.fewest_added, ("yard",)),
     (sameness.least_added, ("yard",)),
+    (spans.cutters, ("yard", "order")),
+    (spans.tree_of, ("yard", "order")),
+    (spans.room_order, ("yard", "order")),
+    (spans.is_span, ("yard", "lot")),
+    (spans.spans, ("yard",)),
+    (spans.count_spans, ("yard",)),
+    (spans.orders_with_span, ("yard", "span")),
+    (spans.room_orders, ("yard",)),
+    (spans.count_room_orders, ("yard",)),
+    (spans.orders_of_rooms, ("yard", "any")),
+    (trees.is_tree, ("yard",)),
+    (trees.hanging, ("tree",)),
+    (trees.tree_orders, ("tree",)),
+    (trees.tree_gate, ("tree", "number")),
+    (trees.first_chance, ("tree", "number")),
+    (trees.order_of_tree, ("tree", "order")),
+    (trees.tree_cost, ("tree", "tree_weights")),
+    (dues.delay, ("yard", "order", "row")),
+    (dues.least_delay, ("yard", "row")),
+    (dues.due_order, ("yard", "row")),
+    (dues.in_time, ("yard", "row")),
+    (dues.least_cost, ("yard", "row")),
+    (dues.cheap_order, ("yard", "row")),
+    (dues.count_cheap, ("yard", "row")),
+    (days.is_plan, ("yard", "any")),
+    (days.fewest_days, ("yard", "masons")),
+    (days.masons_for, ("yard", "days")),
+    (days.late_plan, ("yard",)),
+    (days.tree_days, ("tree", "masons")),
+    (days.widest, ("yard",)),
+    (days.room_depths, ("yard",)),
 ]
 
 RIGHT = {
@@ -76,6 +107,15 @@ RIGHT = {
     "rank": [0, 1, 2, 6, 10 ** 40],
     "side": [0, 1],
     "walls": [(), ((0, 2, 1),), ((2, 3, 0), (0, 1, 2)), ((0, 1, 0),) * 9],
+    # A yard that is a tree, and the lot of such a yard that is a span.
+    "tree": [YARD],
+    "span": [(0, 1, 2)],
+    "row": [(0, 0, 0), (-1000, 1000, 7), (3, 2, 1)],
+    "tree_weights": [(0, 0, 0), (1000, 0, 1000), (3, 2, 1)],
+    "masons": [1, 2, 12],
+    "days": [0, 1, 2, 3, 12],
+    "any": [None, True, 0, "", "012", (), [], {}, (0, 1, 2), [0, 1, 2], {0: (1,)}, (1, 2, 3), (3, 2, 1), (1, True, 3),
+            (2, 1, 3), ((1,), (0, 2)), ((1, 2), (0,)), ((1, 2), [0]), ((), (0, 1, 2)), ((0, 1), (1, 2)), ((1, None),)],
 }
 
 # None of these values is right for any argument, but for a great rank.
@@ -110,6 +150,15 @@ WRONG = {
     "side": ODD + [2, 3, -2, (0,), (1,), "1"],
     "walls": ODD + [0, 1, (0, 1, 0), [(0, 1, 0)], [()], "010", ((0, 1, 0), [0, 1, 0]), ((0, 1, 0),) * 12 + (None,)]
              + [yard[1] for yard, index in WRONG_YARDS if index is not None and yard[0] == 4],
+    "tree": ODD + [yard for yard, _ in WRONG_YARDS],
+    "span": ODD + [0, (1, 0), (0, 0), (0, 2, 1), (3,), (0, 3), (-1, 0, 1), "012", (0, 1, True), [0, 1, 2]],
+    "row": ODD + [(), 0, (0, 0), (0,) * 4, (1001, 0, 0), (0, 0, -1001), (0, True, 0), (0, False, 0), (None, 0, 0),
+                  ("0", 0, 0), (0, 0, (0,)), "012", {0: 0, 1: 0, 2: 0}, (0, 10 ** 40, 0), (0, [0], 0), (0, 0, {})],
+    "tree_weights": ODD + [(), 0, (0, 0), (0,) * 4, (1001, 0, 0), (0, 0, -1), (0, True, 0), (0, False, 0),
+                           (None, 0, 0), ("0", 0, 0), (0, 0, (0,)), "012", {0: 0, 1: 0, 2: 0}, (0, 10 ** 40, 0)],
+    "masons": ODD + [0, 13, -12, (1,), (0, 1), "3", [1]],
+    "days": ODD + [13, -12, (1,), (0, 1), "3", [1]],
+    "any": [],
 }
 
 ERRORS = {
@@ -123,4 +172,10 @@ ERRORS = {
     "rank": BadNumber,
     "side": BadNumber,
     "walls": BadWalls,
+    "tree": BadYard,
+    "span": BadLot,
+    "row": BadNumber,
+    "tree_weights": BadNumber,
+    "masons": BadNumber,
+    "days": BadNumber,
 }

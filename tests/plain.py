@@ -3,6 +3,7 @@
 Nothing here uses the program. Everything takes right arguments only.
 """
 
+from fractions import Fraction
 from itertools import combinations, permutations
 
 
@@ -160,3 +161,92 @@ def growths(yard):
 
 def ahead(yard, one, other):
     return is_come_to(yard, other) and not is_come_to(yard, other, (one,))
+
+
+def ratio(top, low):
+    """A pair of numbers without a common divisor, None if the second one is 0."""
+    if low == 0:
+        return None
+    part = Fraction(top, low)
+    return (part.numerator, part.denominator)
+
+
+def joined(yard, lot):
+    """The rooms from which one can walk to outside."""
+    return walk_on(yard, lot, {0}, False)
+
+
+def cuts(yard, order):
+    """For each place of an order the rooms that are cut off when its wall is set, and could be left ahead of that."""
+    return [joined(yard, order[place:]) - joined(yard, order[place + 1:]) for place in range(len(order))]
+
+
+def cutters(yard, order):
+    return tuple(number for number, rooms in zip(order, cuts(yard, order)) if rooms)
+
+
+def room_order(yard, order):
+    found = []
+    for rooms in cuts(yard, order):
+        found.extend(sorted(rooms))
+    return tuple(found)
+
+
+def is_span(yard, lot):
+    rooms = joined(yard, numbers(yard))
+    return len(lot) == len(rooms) - 1 and rooms <= come(yard, lot)
+
+
+def spans(yard):
+    return sorted(lot for lot in every_lot(yard) if is_span(yard, lot))
+
+
+def free_ways(yard, room):
+    """All rows of gaps from outside to a room, no room twice, from any side, each with its rooms."""
+    found = []
+    rows = [((), (0,))]
+    while rows:
+        found.extend(row for row in rows if row[1][-1] == room)
+        longer = []
+        for gaps, rooms in rows:
+            for number, (low, high, _) in enumerate(yard[1]):
+                if rooms[-1] in (low, high) and low + high - rooms[-1] not in rooms:
+                    longer.append((gaps + (number,), rooms + (low + high - rooms[-1],)))
+        rows = longer
+    return found
+
+
+def is_tree(yard):
+    rooms = {room for wall in yard[1] for room in wall[:2]}
+    if any(len(free_ways(yard, room)) != 1 for room in rooms):
+        return False
+    for wall in yard[1]:
+        near = min(wall[:2], key=lambda room: len(free_ways(yard, room)[0][0]))
+        if near not in setting_rooms(wall):
+            return False
+    return True
+
+
+def every_days(lot):
+    """All tuples of lots that are not empty in which each wall of a lot is in just one."""
+    if not lot:
+        return [()]
+    found = []
+    for size in range(1, len(lot) + 1):
+        for first in combinations(lot, size):
+            rest = tuple(number for number in lot if number not in first)
+            found.extend((first,) + days for days in every_days(rest))
+    return found
+
+
+def is_plan(yard, days):
+    """Whether a tuple of lots in which each wall is in just one is a plan."""
+    for day, lot in enumerate(days):
+        rooms = come(yard, [number for later in days[day + 1:] for number in later])
+        if not all(setting_rooms(yard[1][number]) & rooms for number in lot):
+            return False
+    return True
+
+
+def plans(yard):
+    return [days for days in every_days(tuple(numbers(yard))) if is_plan(yard, days)]

@@ -47,6 +47,35 @@ def chosen(count, rooms, walls, seed):
     return found
 
 
+def tree(source, rooms):
+    """A tree with so many rooms at most, some of which may have no wall."""
+    many = source.randint(2, rooms)
+    used = source.sample(range(1, many), source.randint(1, many - 1))
+    walls = []
+    for at, room in enumerate(used):
+        near = source.choice([0] + used[:at])
+        walls.append((min(near, room), max(near, room), source.choice((int(near > room), 2))))
+    source.shuffle(walls)
+    return (many, tuple(walls))
+
+
+def trees(count, rooms, seed):
+    """So many trees, always the same, with so many rooms at most."""
+    source = Random(seed)
+    return [tree(source, rooms) for _ in range(count)]
+
+
+def rows(yard, low, high, seed):
+    """Some rows of an integer for each wall: the least and the greatest, alike ones, and a fixed choice of others."""
+    source = Random(seed)
+    many = len(yard[1])
+    found = [(low,) * many, (high,) * many, (0,) * many]
+    for span in (2, 4, high):
+        found.append(tuple(source.randint(max(low, -span), span) for _ in range(many)))
+        found.append(tuple(source.randint(0, span) for _ in range(many)))
+    return found
+
+
 def small():
     """Yards of which all orders can be looked at."""
     return NAMED + tiny() + chosen(150, 4, 4, 1) + chosen(60, 5, 5, 2)

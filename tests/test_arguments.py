@@ -5,7 +5,7 @@ import unittest
 from itertools import combinations, product
 
 from tests.calls import CALLS, ERRORS, ODD, RIGHT, WRONG, WRONG_YARDS, YARD
-from walledin.errors import BadYard, WallError
+from walledin.errors import BadTree, BadYard, NotTree, WallError
 
 
 def right_rows(kinds):
@@ -54,7 +54,7 @@ class WrongArguments(unittest.TestCase):
         for function, kinds in CALLS:
             right = next(right_rows(kinds))
             for at, kind in enumerate(kinds):
-                if kind != "yard":
+                if kind not in ("yard", "tree"):
                     continue
                 for value in ODD:
                     self.assertIsNone(raised(function, right[:at] + (value,) + right[at + 1:]).index)
@@ -72,8 +72,11 @@ class WrongArguments(unittest.TestCase):
     def test_yards_without_an_order(self):
         back = (3, ((0, 1, 0), (1, 2, 1)))
         right = {"yard": back, "number": 0, "other": 1, "lot": (1,), "room": 2, "order": (0, 1), "rooms": (2,),
-                 "rank": 0, "side": 0, "walls": ()}
+                 "rank": 0, "side": 0, "walls": (), "row": (0, 0), "masons": 1, "days": 1, "any": None}
         for function, kinds in CALLS:
+            if "tree" in kinds or "span" in kinds:
+                # This yard is no tree, and has no span.
+                continue
             for at, kind in enumerate(kinds):
                 for value in WRONG[kind]:
                     row = [right[kind] for kind in kinds]
@@ -81,6 +84,24 @@ class WrongArguments(unittest.TestCase):
                     # What is too short an order elsewhere is one of this yard.
                     if repr(value) != repr(right[kind]):
                         self.expect(function, tuple(row), kind)
+
+    def test_other_yards_than_trees(self):
+        others = [(3, ((0, 1, 0), (1, 2, 1))), (4, YARD[1] + YARD[1]), (5, ((0, 1, 0), (2, 3, 0))), (2, ((0, 1, 1),))]
+        for function, kinds in CALLS:
+            if kinds[0] == "tree":
+                right = next(right_rows(kinds))
+                for yard in others:
+                    self.assertIs(type(raised(function, (yard,) + right[1:])), NotTree)
+                    for value in ODD:
+                        self.assertIs(type(raised(function, (yard,) + (value,) * len(right[1:]))), NotTree)
+
+    def test_other_lots_than_spans(self):
+        for function, kinds in CALLS:
+            if "span" in kinds:
+                for lot in ((), (0,), (1, 2), (0, 2)):
+                    self.assertIs(type(raised(function, (YARD, lot))), BadTree)
+                for value in WRONG["yard"]:
+                    self.assertIs(type(raised(function, (value, (0,)))), BadYard)
 
     def test_greatest_yards_are_right(self):
         for function, kinds in CALLS:

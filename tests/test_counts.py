@@ -1,7 +1,6 @@
 """Point 10: all orders that can be walked, against the list of them."""
 
 import unittest
-from fractions import Fraction
 from math import factorial
 
 from tests import plain
@@ -86,18 +85,11 @@ class Counts(unittest.TestCase):
             for number in plain.numbers(yard):
                 spots = [order.index(number) for order in good]
                 self.assertEqual(place_counts(yard, number), tuple(map(spots.count, plain.numbers(yard))))
-                self.assertEqual(mean_place(yard, number), ratio(sum(spots), len(good)))
+                self.assertEqual(mean_place(yard, number), plain.ratio(sum(spots), len(good)))
                 for other in plain.numbers(yard):
                     if other != number:
                         ahead = sum(order.index(number) < order.index(other) for order in good)
-                        self.assertEqual(ahead_chance(yard, number, other), ratio(ahead, len(good)))
-
-
-def ratio(top, low):
-    if low == 0:
-        return None
-    part = Fraction(top, low)
-    return (part.numerator, part.denominator)
+                        self.assertEqual(ahead_chance(yard, number, other), plain.ratio(ahead, len(good)))
 
 
 def plain_swaps(yard, order, good=None):

@@ -5,7 +5,7 @@ import unittest
 from walledin import errors
 from walledin.errors import WallError
 
-PLAIN = ["BadLot", "BadOrder", "BadRoom", "BadWall", "BadNumber", "BadWalls"]
+PLAIN = ["BadLot", "BadOrder", "BadRoom", "BadWall", "BadNumber", "BadWalls", "BadTree", "NotTree"]
 
 
 class Errors(unittest.TestCase):

@@ -72,6 +72,41 @@ class Examples(unittest.TestCase):
             [True, 1, (2, ((0, 1, 0),)), (2, ((0, 1, 2),)), (3, ((0, 1, 0), (1, 2, 0), (0, 2, 1))),
              (3, ((1, 2, 0),)), 0, 1, ((0, 1, 0),)])
 
+    def test_spans(self):
+        from walledin.spans import (count_room_orders, count_spans, cutters, is_span, orders_of_rooms,
+                                    orders_with_span, room_order, room_orders, spans, tree_of)
+        ring = (3, ((0, 1, 0), (1, 2, 2), (0, 2, 0)))
+        self.assertEqual(
+            [spans(ring), count_spans(ring), is_span(ring, (0, 1)), cutters(ring, (1, 0, 2)), tree_of(ring, (1, 0, 2)),
+             room_order(ring, (1, 0, 2)), room_orders(ring), count_room_orders(ring), orders_with_span(ring, (0, 2)),
+             orders_of_rooms(ring, (1, 2))],
+            [[(0, 1), (0, 2), (1, 2)], 3, True, (0, 2), (0, 2), (1, 2), [(1, 2), (2, 1)], 2, 2, 2])
+
+    def test_trees(self):
+        from walledin.trees import first_chance, hanging, is_tree, order_of_tree, tree_cost, tree_gate, tree_orders
+        fork = (4, ((0, 1, 0), (1, 2, 0), (1, 3, 2)))
+        self.assertEqual(
+            [is_tree(fork), hanging(fork), tree_orders(fork), tree_gate(fork, 2), first_chance(fork, 0),
+             order_of_tree(fork, (2, 1, 0)), tree_cost(fork, (0, 5, 9))],
+            [True, (3, 1, 1), 2, 0, (1, 1), True, 33])
+
+    def test_dues(self):
+        from walledin.dues import cheap_order, count_cheap, delay, due_order, in_time, least_cost, least_delay
+        fork = (4, ((0, 1, 0), (1, 2, 0), (1, 3, 2)))
+        self.assertEqual(
+            [delay(fork, (1, 2, 0), (1, 1, 1)), least_delay(fork, (3, 1, 2)), due_order(fork, (3, 1, 2)),
+             in_time(fork, (3, 2, 2)), least_cost(fork, (1, 1, 2)), cheap_order(fork, (0, 0, 0)),
+             count_cheap(fork, (0, 0, 0))],
+            [2, 0, (1, 2, 0), 2, 7, (1, 2, 0), 2])
+
+    def test_days(self):
+        from walledin.days import fewest_days, is_plan, late_plan, masons_for, room_depths, tree_days, widest
+        star = (4, ((0, 1, 0), (0, 2, 0), (0, 3, 0)))
+        self.assertEqual(
+            [fewest_days(star, 2), masons_for(star, 1), is_plan(star, ((0,), (1, 2))), late_plan(star),
+             tree_days(star, 2), widest(star), room_depths(star)],
+            [2, 3, True, ((0, 1, 2),), 2, 3, (0, 1, 1, 1)])
+
 
 if __name__ == "__main__":
     unittest.main()

@@ -28,6 +28,15 @@ INTERFACE = {
     "sameness": ["same_orders(one, other)", "orders_lost(yard, number, side)", "tight(yard)", "loose(yard)",
                  "added(yard, walls)", "taken_out(yard, number)", "orders_without(yard, number)",
                  "fewest_added(yard)", "least_added(yard)"],
+    "spans": ["cutters(yard, order)", "tree_of(yard, order)", "room_order(yard, order)", "is_span(yard, lot)",
+              "spans(yard)", "count_spans(yard)", "orders_with_span(yard, lot)", "room_orders(yard)",
+              "count_room_orders(yard)", "orders_of_rooms(yard, rooms)"],
+    "trees": ["is_tree(yard)", "hanging(yard)", "tree_orders(yard)", "tree_gate(yard, number)",
+              "first_chance(yard, number)", "order_of_tree(yard, order)", "tree_cost(yard, weights)"],
+    "dues": ["delay(yard, order, dues)", "least_delay(yard, dues)", "due_order(yard, dues)", "in_time(yard, dues)",
+             "least_cost(yard, weights)", "cheap_order(yard, weights)", "count_cheap(yard, weights)"],
+    "days": ["is_plan(yard, days)", "fewest_days(yard, masons)", "masons_for(yard, days)", "late_plan(yard)",
+             "tree_days(yard, masons)", "widest(yard)", "room_depths(yard)"],
 }
 
 LIBRARY = {"math": {"gcd"}, "itertools": {"combinations"}}

@@ -102,7 +102,15 @@ def rank_check(rank):
         raise BadNumber()
 
 
-def side_check(side):
-    """Raise BadNumber for a value that is not the one side 0 or the other side 1."""
-    if not within(side, 0, 1):
+def number_check(number, low, high):
+    """Raise BadNumber for a value that is no integer from low to high."""
+    if not within(number, low, high):
         raise BadNumber()
+
+
+def row_check(yard, row, low, high):
+    """Raise BadNumber for a value that is no tuple of an integer from low to high for each wall."""
+    if not isinstance(row, tuple) or len(row) != len(yard[1]):
+        raise BadNumber()
+    for number in row:
+        number_check(number, low, high)

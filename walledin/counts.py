@@ -13,12 +13,55 @@ def all_bits(yard):
 
 
 def grown_counts(comers):
-    """Return a dict of all open lots of growth, each with how many orders of its walls alone can be walked."""
+    """Return a dict of the lots that grow by some comers alone, as in growth, each with in how many orders it does."""
     found = {0: 1}
     for lot in comers:
-        for number in comers[lot]:
-            more = lot | (1 << number)
-            found[more] = found.get(more, 0) + found[lot]
+        if lot in found:
+            for number in comers[lot]:
+                more = lot | (1 << number)
+                found[more] = found.get(more, 0) + found[lot]
+    return found
+
+
+def orders_grown(yard, comers):
+    """Return how many orders of all walls grow by some comers alone."""
+    return grown_counts(comers).get(all_bits(yard), 0)
+
+
+def order_grown(yard, comers, rank):
+    """Return the order that so many of those stand ahead of that grow by some comers, None if there are not so many."""
+    grown = grown_counts(comers)
+    left = all_bits(yard)
+    if rank >= grown.get(left, 0):
+        return None
+    order = []
+    while left:
+        for number in lot_of(left):
+            chosen = number
+            rest = left - (1 << number)
+            many = 0
+            if number in comers.get(rest, ()):
+                many = grown.get(rest, 0)
+            if rank < many:
+                break
+            rank -= many
+        order.append(chosen)
+        left -= 1 << chosen
+    return tuple(order)
+
+
+def place_ahead(yard, lot):
+    """Return the place of a wall that just the walls of a lot of growth stand behind."""
+    return len(yard[1]) - 1 - len(lot_of(lot))
+
+
+def growth_within(yard, windows):
+    """Return growth, but with each wall only where it gets a place from the low to the high one of its window."""
+    comers = growth(yard)
+    found = {}
+    for lot in comers:
+        place = place_ahead(yard, lot)
+        found[lot] = [number for number in comers[lot] if windows[number][0] <= place <= windows[number][1]]
     return found
 
 
@@ -50,28 +93,14 @@ def ratio(top, low):
 def count_orders(yard):
     """Return how many orders can be walked."""
     yard_check(yard)
-    return grown_counts(growth(yard)).get(all_bits(yard), 0)
+    return orders_grown(yard, growth(yard))
 
 
 def order_at(yard, rank):
     """Return the order that so many orders stand ahead of, None if there are not so many."""
     yard_check(yard)
     rank_check(rank)
-    grown = grown_counts(growth(yard))
-    left = all_bits(yard)
-    if rank >= grown.get(left, 0):
-        return None
-    order = []
-    while left:
-        for number in lot_of(left):
-            chosen = number
-            many = grown.get(left - (1 << number), 0)
-            if rank < many:
-                break
-            rank -= many
-        order.append(chosen)
-        left -= 1 << chosen
-    return tuple(order)
+    return order_grown(yard, growth(yard), rank)
 
 
 def rank_of(yard, order):
@@ -99,10 +128,9 @@ def place_counts(yard, number):
     """Return the tuple, for each place, of in how many orders a wall stands there."""
     yard_check(yard)
     wall_check(yard, number)
-    many = len(yard[1])
-    counts = [0] * many
+    counts = [0] * len(yard[1])
     for lot, orders in orders_behind(yard, number):
-        counts[many - 1 - len(lot_of(lot))] += orders
+        counts[place_ahead(yard, lot)] += orders
     return tuple(counts)
 
 

@@ -33,6 +33,10 @@ class BadWalls(WallError):
     """A value that is no tuple of walls."""
 
 
+class BadTree(WallError):
+    """A lot that is no span."""
+
+
 class BadNumber(WallError):
     """A value that is not one of the numbers that are allowed."""
 
@@ -43,3 +47,7 @@ class TooMany(WallError):
     def __init__(self, most):
         WallError.__init__(self, f"more than {most}")
         self.most = most
+
+
+class NotTree(WallError):
+    """A yard that is no tree."""

@@ -4,21 +4,18 @@ from walledin.checks import lot_check, yard_check
 from walledin.yards import can_set, every_number, rooms_come_to, sides_of, without
 
 
-def room_bits(rooms):
-    """Return the number that has the bit of each of some unlike rooms."""
-    return sum(1 << room for room in rooms)
+def bits_of(numbers):
+    """Return the number that has the bit of each of some unlike numbers."""
+    return sum(1 << number for number in numbers)
 
 
-def growth(yard):
-    """Return a dict of all open lots, smaller ones first, each with the list of the walls that can come to it.
-
-    A lot is written as the number that has the bit of each of its walls.
-    """
-    near = [room_bits(sides_of(wall)) for wall in yard[1]]
-    ends = [room_bits(wall[:2]) for wall in yard[1]]
+def growth_from(yard, starts):
+    """Return what growth does, if one comes to all rooms from some rooms instead of outside."""
+    near = [bits_of(sides_of(wall)) for wall in yard[1]]
+    ends = [bits_of(wall[:2]) for wall in yard[1]]
     comers = {}
-    # One comes to both rooms of each wall of an open lot, so these and outside are all its rooms.
-    rooms = {0: 1}
+    # One comes to both rooms of each wall of such a lot, so these and the first rooms are all its rooms.
+    rooms = {0: bits_of(starts)}
     while rooms:
         grown = {}
         for lot in rooms:
@@ -28,6 +25,14 @@ def growth(yard):
                 grown[lot | (1 << number)] = rooms[lot] | ends[number]
         rooms = grown
     return comers
+
+
+def growth(yard):
+    """Return a dict of all open lots, smaller ones first, each with the list of the walls that can come to it.
+
+    A lot is written as the number that has the bit of each of its walls.
+    """
+    return growth_from(yard, (0,))
 
 
 def lot_of(bits):

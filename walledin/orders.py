@@ -5,9 +5,12 @@ from walledin.lots import can_go, is_open
 from walledin.yards import every_number, rooms_open_to, sides_of, without
 
 
-def back_stands(yard, order):
-    """Return, from the last wall on, the least rooms from which walls may be set, up to the first that cannot be."""
-    come = [0]
+def back_stands(yard, order, starts):
+    """Return, from the last wall on, the least rooms from which walls may be set, up to the first that cannot be.
+
+    They are rooms that one comes to from some rooms through the gaps of the walls behind.
+    """
+    come = list(starts)
     found = []
     for number in order[::-1]:
         wall = yard[1][number]
@@ -37,7 +40,7 @@ def stuck_at(yard, order):
     """Return the greatest place of a wall that cannot be set with the gaps behind it, None if there is none."""
     yard_check(yard)
     order_check(yard, order)
-    left = len(order) - len(back_stands(yard, order))
+    left = len(order) - len(back_stands(yard, order, (0,)))
     if left == 0:
         return None
     return left - 1
@@ -47,7 +50,7 @@ def stands(yard, order):
     """Return the tuple of the least rooms for the walls of an order that can be walked, None for another order."""
     if not is_order(yard, order):
         return None
-    return tuple(back_stands(yard, order)[::-1])
+    return tuple(back_stands(yard, order, (0,))[::-1])
 
 
 def has_order(yard):

@@ -1,6 +1,6 @@
 """Yards that leave the same orders, and what changes with other sides, more walls or fewer."""
 
-from walledin.checks import MOST_WALLS, side_check, wall_check, walls_check, yard_check
+from walledin.checks import MOST_WALLS, number_check, wall_check, walls_check, yard_check
 from walledin.counts import count_orders
 from walledin.errors import TooMany
 from walledin.lots import open_lots
@@ -23,7 +23,7 @@ def orders_lost(yard, number, side):
     """Return how many orders fewer there are if a wall may be set from a side alone than if from either."""
     yard_check(yard)
     wall_check(yard, number)
-    side_check(side)
+    number_check(side, 0, 1)
     return count_orders(with_side(yard, number, 2)) - count_orders(with_side(yard, number, side))
 
 

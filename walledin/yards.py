@@ -52,10 +52,10 @@ def free_steps(yard, lot):
     return steps
 
 
-def distances(steps, start):
-    """Return a dict of the rooms that one gets to from a room, each with the fewest steps that lead to it."""
-    found = {start: 0}
-    row = [start]
+def distances(steps, starts):
+    """Return a dict of the rooms that one gets to from some rooms, each with the fewest steps that lead to it."""
+    found = {start: 0 for start in starts}
+    row = list(starts)
     while row:
         behind = []
         for room in row:
@@ -65,6 +65,16 @@ def distances(steps, start):
                     behind.append(there)
         row = behind
     return found
+
+
+def told_distances(yard, lot, starts):
+    """Return the distances from some rooms through the gaps of a lot, each gap from its wall's sides alone."""
+    return distances(told_steps(yard, lot), starts)
+
+
+def free_distances(yard, lot, starts):
+    """Return the distances from some rooms through the gaps of a lot, each gap from either side."""
+    return distances(free_steps(yard, lot), starts)
 
 
 def sides(yard, number):
@@ -78,14 +88,14 @@ def rooms_open_to(yard, lot):
     """Return the ascending tuple of the rooms between which and outside one can walk through gaps of a lot."""
     yard_check(yard)
     lot_check(yard, lot)
-    return tuple(sorted(distances(free_steps(yard, lot), 0)))
+    return tuple(sorted(free_distances(yard, lot, (0,))))
 
 
 def rooms_come_to(yard, lot):
     """Return the ascending tuple of the rooms that one comes to from outside, each gap walked from its wall's sides."""
     yard_check(yard)
     lot_check(yard, lot)
-    return tuple(sorted(distances(told_steps(yard, lot), 0)))
+    return tuple(sorted(told_distances(yard, lot, (0,))))
 
 
 def steps_between(yard, lot, one, other):
@@ -94,7 +104,7 @@ def steps_between(yard, lot, one, other):
     lot_check(yard, lot)
     room_check(yard, one)
     room_check(yard, other)
-    return distances(free_steps(yard, lot), one).get(other)
+    return free_distances(yard, lot, (one,)).get(other)
 
 
 def touching(yard, room):
