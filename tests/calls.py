@@ -1,6 +1,7 @@
 """All functions of the interface, each with the kinds of its arguments, and right and wrong values of each kind."""
 
-from walledin import counts, days, dues, lots, orders, sameness, spans, traps, trees, ways, yards
+from walledin import (counts, days, dues, lots, luck, orders, outsides, sameness, spans, traps, trees, walks, ways,
+                      windows, yards)
 from walledin.errors import BadLot, BadNumber, BadOrder, BadRoom, BadWall, BadWalls, BadYard
 
 YARD = (4, ((0, 1, 0), (1, 2, 2), (0, 3, 0)))
@@ -93,6 +94,33 @@ CALLS = [
     (days.tree_days, ("tree", "masons")),
     (days.widest, ("yard",)),
     (days.room_depths, ("yard",)),
+    (windows.orders_within, ("yard", "windows")),
+    (windows.first_within, ("yard", "windows")),
+    (windows.walls_at, ("yard", "place")),
+    (windows.place_table, ("yard",)),
+    (walks.walk_length, ("yard", "order", "room")),
+    (walks.mason_rooms, ("yard", "order", "room")),
+    (walks.least_walk, ("yard", "room")),
+    (walks.short_order, ("yard", "room")),
+    (walks.walks_well, ("yard", "order", "room")),
+    (walks.least_start, ("yard",)),
+    (walks.has_walk, ("yard", "room")),
+    (walks.stays_put, ("yard", "order")),
+    (outsides.is_order_with, ("yard", "order", "ends")),
+    (outsides.ends_of, ("yard", "order")),
+    (outsides.good_ends, ("yard",)),
+    (outsides.has_order_at, ("yard", "room")),
+    (outsides.team_can, ("yard", "order", "ends")),
+    (outsides.has_team, ("yard", "ends")),
+    (outsides.count_team_orders, ("yard", "ends")),
+    (outsides.least_teams, ("yard",)),
+    (outsides.fewest_masons, ("yard",)),
+    (luck.first_moves, ("yard", "room")),
+    (luck.luck, ("yard", "room")),
+    (luck.warmth, ("yard", "order")),
+    (luck.least_warmth, ("yard",)),
+    (luck.greatest_warmth, ("yard",)),
+    (luck.cool_order, ("yard",)),
 ]
 
 RIGHT = {
@@ -116,6 +144,9 @@ RIGHT = {
     "days": [0, 1, 2, 3, 12],
     "any": [None, True, 0, "", "012", (), [], {}, (0, 1, 2), [0, 1, 2], {0: (1,)}, (1, 2, 3), (3, 2, 1), (1, True, 3),
             (2, 1, 3), ((1,), (0, 2)), ((1, 2), (0,)), ((1, 2), [0]), ((), (0, 1, 2)), ((0, 1), (1, 2)), ((1, None),)],
+    "windows": [((0, 2), (0, 2), (0, 2)), ((1, 0), (0, 2), (0, 2)), ((-10 ** 40, 10 ** 40), (1, 1), (-5, 2))],
+    "place": [0, 2, 3, 11],
+    "ends": [(0,), (3,), (0, 2), (1, 2, 3), (0, 1, 2, 3)],
 }
 
 # None of these values is right for any argument, but for a great rank.
@@ -159,6 +190,14 @@ WRONG = {
     "masons": ODD + [0, 13, -12, (1,), (0, 1), "3", [1]],
     "days": ODD + [13, -12, (1,), (0, 1), "3", [1]],
     "any": [],
+    "windows": ODD + [0, (0, 0), (0, 0, 0), ((0, 2), (0, 2)), ((0, 2),) * 4, [(0, 2)] * 3, "012", ((0, 2), (0, 2), 0),
+                      ((0, 2), (0, 2), None), ((0, 2), (0, 2), [0, 2]), ((0, 2), (0, 2), "02"), ((0, 2), (0, 2), (0,)),
+                      ((0, 2), (0, 2), (0, 1, 2)), ((0, 2), (0, 2), ()), ((0, 2), (0, 2), {0: 0, 1: 2}),
+                      ((0, True), (0, 2), (0, 2)), ((False, 2), (0, 2), (0, 2)), ((0, None), (0, 2), (0, 2)),
+                      (("0", 2), (0, 2), (0, 2)), ((0, (2,)), (0, 2), (0, 2)), ((0, 2), ([0], 2), (0, 2))],
+    "place": ODD + [12, 13, (0,), (1, 2), "3", [1]],
+    "ends": ODD + [(), 0, 1, (1, 0), (0, 0), (1, 1), (1, 3, 2), (4,), (0, 4), (-1, 0), "012", (0, True), (False, 1),
+                   (0, 1, 2, 3, 4), [0, 1], {0: 1}, ((0, 1),)],
 }
 
 ERRORS = {
@@ -178,4 +217,7 @@ ERRORS = {
     "tree_weights": BadNumber,
     "masons": BadNumber,
     "days": BadNumber,
+    "windows": BadNumber,
+    "place": BadNumber,
+    "ends": BadRoom,
 }

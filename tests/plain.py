@@ -4,7 +4,8 @@ Nothing here uses the program. Everything takes right arguments only.
 """
 
 from fractions import Fraction
-from itertools import combinations, permutations
+from functools import lru_cache
+from itertools import combinations, permutations, product
 
 
 def numbers(yard):
@@ -47,6 +48,7 @@ def come(yard, lot):
     return walk_on(yard, lot, {0}, True)
 
 
+@lru_cache(maxsize=None)
 def fewest_steps(yard, lot, one, other):
     rooms = {one}
     for steps in range(yard[0]):
@@ -61,12 +63,19 @@ def fewest_steps(yard, lot, one, other):
     return None
 
 
-def mason_walks(yard, order, room):
-    """Let a mason who begins in a room set the walls of an order, with all choices of stands at once."""
+def mason_ends(yard, order, room):
+    """Let a mason who begins in a room set the walls of an order, with all choices of stands at once.
+
+    The rooms in which it can stand then.
+    """
     at = {room}
     for place, number in enumerate(order):
         at = walk_on(yard, order[place:], at, False) & setting_rooms(yard[1][number])
-    return 0 in at
+    return at
+
+
+def mason_walks(yard, order, room):
+    return 0 in mason_ends(yard, order, room)
 
 
 def walks(yard, order):
@@ -250,3 +259,67 @@ def is_plan(yard, days):
 
 def plans(yard):
     return [days for days in every_days(tuple(numbers(yard))) if is_plan(yard, days)]
+
+
+def fewest_to_stand(yard, order, room):
+    """Let a mason who begins in a room set the walls of an order: a dict of last rooms with the fewest steps."""
+    at = {room: 0}
+    for place, number in enumerate(order):
+        further = {}
+        for here in at:
+            for there in setting_rooms(yard[1][number]):
+                steps = fewest_steps(yard, order[place:], here, there)
+                if steps is not None:
+                    further[there] = min(further.get(there, 10 ** 9), at[here] + steps)
+        at = further
+    return at
+
+
+def walk_length(yard, order, room):
+    return fewest_to_stand(yard, order, room).get(0)
+
+
+def walks_with_stands(yard, order, room):
+    """All tuples of stands of masons who begin in a room and set the walls of an order, each with its fewest steps."""
+    found = {}
+    for row in product(*[sorted(setting_rooms(yard[1][number])) for number in order]):
+        rooms = (room,) + row
+        steps = [fewest_steps(yard, order[place:], rooms[place], rooms[place + 1]) for place in range(len(order))]
+        if None not in steps and rooms[-1] == 0:
+            found[row] = sum(steps)
+    return found
+
+
+def team_ends(yard, order, many):
+    """Let so many masons, who begin anywhere, set the walls of an order: all tuples of their rooms at last.
+
+    Ahead of each wall all of them walk wherever they can.
+    """
+    at = set(product(range(yard[0]), repeat=many))
+    for place, number in enumerate(order):
+        near = {room: walk_on(yard, order[place:], {room}, False) for room in range(yard[0])}
+        moved = {rooms for row in at for rooms in product(*[near[room] for room in row])}
+        at = {rooms for rooms in moved if setting_rooms(yard[1][number]) & set(rooms)}
+    return at
+
+
+def moves(yard, lot, room):
+    """The pairs of a wall of a lot and of a room from which a mason can set it, who is in a room."""
+    near = walk_on(yard, lot, {room}, False)
+    return [(number, side) for number in lot for side in sorted(setting_rooms(yard[1][number]) & near)]
+
+
+def rows_of_moves(yard, lot, room):
+    """All rows of moves of a random mason, each with its chance, the walls that are left and the last room."""
+    pairs = moves(yard, lot, room)
+    if not pairs:
+        return [(Fraction(1), lot, room)]
+    found = []
+    for number, side in pairs:
+        rest = tuple(other for other in lot if other != number)
+        found.extend((chance / len(pairs), left, last) for chance, left, last in rows_of_moves(yard, rest, side))
+    return found
+
+
+def warmth(yard, order):
+    return sum(len(joined(yard, order[place + 1:]) - {0}) for place in range(len(order)))

@@ -107,6 +107,41 @@ class Examples(unittest.TestCase):
              tree_days(star, 2), widest(star), room_depths(star)],
             [2, 3, True, ((0, 1, 2),), 2, 3, (0, 1, 1, 1)])
 
+    def test_windows(self):
+        from walledin.windows import first_within, orders_within, place_table, walls_at
+        star = (4, ((0, 1, 0), (0, 2, 0), (0, 3, 0)))
+        self.assertEqual(
+            [orders_within(star, ((0, 0), (0, 2), (1, 1))), first_within(star, ((0, 0), (0, 2), (1, 1))),
+             walls_at(star, 0), place_table(star)],
+            [1, (0, 2, 1), (0, 1, 2), ((2, 2, 2), (2, 2, 2), (2, 2, 2))])
+
+    def test_walks(self):
+        from walledin.walks import (has_walk, least_start, least_walk, mason_rooms, short_order, stays_put,
+                                    walk_length, walks_well)
+        line, star = (3, ((0, 1, 0), (1, 2, 0))), (4, ((0, 1, 0), (0, 2, 2), (0, 3, 0)))
+        self.assertEqual(
+            [walk_length(line, (1, 0), 2), mason_rooms(line, (1, 0), 0), least_walk(star, 2), short_order(star, 2),
+             least_start(line), walks_well(line, (1, 0), 1), stays_put(star, (1, 0, 2)), has_walk(line, 2)],
+            [2, (1, 0), 1, (0, 1, 2), 1, True, (0, 1), True])
+
+    def test_outsides(self):
+        from walledin.outsides import (count_team_orders, ends_of, fewest_masons, good_ends, has_order_at, has_team,
+                                       is_order_with, least_teams, team_can)
+        line = (3, ((0, 1, 0), (1, 2, 1)))
+        self.assertEqual(
+            [ends_of(line, (0, 1)), is_order_with(line, (0, 1), (0, 2)), good_ends(line), has_order_at(line, 0),
+             team_can(line, (0, 1), (0, 2)), has_team(line, (0,)), least_teams(line), fewest_masons(line),
+             count_team_orders(line, (0, 2))],
+            [(), False, (), False, True, False, [(0, 2)], 2, 2])
+
+    def test_luck(self):
+        from walledin.luck import cool_order, first_moves, greatest_warmth, least_warmth, luck, warmth
+        line = (3, ((0, 1, 0), (1, 2, 0)))
+        self.assertEqual(
+            [luck(line, 0), first_moves(line, 0), warmth(line, (1, 0)), least_warmth(line), greatest_warmth(line),
+             cool_order(line)],
+            [(1, 2), ((0, 0), (1, 1)), 1, 1, 1, (1, 0)])
+
 
 if __name__ == "__main__":
     unittest.main()

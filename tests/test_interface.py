@@ -37,6 +37,16 @@ INTERFACE = {
              "least_cost(yard, weights)", "cheap_order(yard, weights)", "count_cheap(yard, weights)"],
     "days": ["is_plan(yard, days)", "fewest_days(yard, masons)", "masons_for(yard, days)", "late_plan(yard)",
              "tree_days(yard, masons)", "widest(yard)", "room_depths(yard)"],
+    "windows": ["orders_within(yard, windows)", "first_within(yard, windows)", "walls_at(yard, place)",
+                "place_table(yard)"],
+    "walks": ["walk_length(yard, order, room)", "mason_rooms(yard, order, room)", "least_walk(yard, room)",
+              "short_order(yard, room)", "walks_well(yard, order, room)", "least_start(yard)", "has_walk(yard, room)",
+              "stays_put(yard, order)"],
+    "outsides": ["is_order_with(yard, order, ends)", "ends_of(yard, order)", "good_ends(yard)",
+                 "has_order_at(yard, end)", "team_can(yard, order, ends)", "has_team(yard, ends)",
+                 "count_team_orders(yard, ends)", "least_teams(yard)", "fewest_masons(yard)"],
+    "luck": ["first_moves(yard, room)", "luck(yard, room)", "warmth(yard, order)", "least_warmth(yard)",
+             "greatest_warmth(yard)", "cool_order(yard)"],
 }
 
 LIBRARY = {"math": {"gcd"}, "itertools": {"combinations"}}

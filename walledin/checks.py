@@ -87,6 +87,13 @@ def rooms_check(yard, rooms):
         raise BadRoom()
 
 
+def ends_check(yard, ends):
+    """Raise BadRoom for a value that is no rising tuple of one or more rooms."""
+    rooms_check(yard, ends)
+    if len(ends) == 0:
+        raise BadRoom()
+
+
 def order_check(yard, order):
     """Raise BadOrder for a value that is no order."""
     many = len(yard[1])
@@ -114,3 +121,14 @@ def row_check(yard, row, low, high):
         raise BadNumber()
     for number in row:
         number_check(number, low, high)
+
+
+def is_window(value):
+    """Tell whether a value is a pair of integers."""
+    return isinstance(value, tuple) and len(value) == 2 and whole(value[0]) and whole(value[1])
+
+
+def windows_check(yard, windows):
+    """Raise BadNumber for a value that is no tuple of a pair of integers for each wall."""
+    if not isinstance(windows, tuple) or len(windows) != len(yard[1]) or not all(is_window(item) for item in windows):
+        raise BadNumber()

@@ -29,7 +29,7 @@ def orders_grown(yard, comers):
 
 
 def order_grown(yard, comers, rank):
-    """Return the order that so many of those stand ahead of that grow by some comers, None if there are not so many."""
+    """Return the order of those that grow by some comers that so many stand ahead of, None if there are not so many."""
     grown = grown_counts(comers)
     left = all_bits(yard)
     if rank >= grown.get(left, 0):
@@ -76,18 +76,31 @@ def rest_counts(yard, comers):
     return found
 
 
-def orders_behind(yard, number):
-    """Return pairs of a lot of growth and of in how many orders just its walls stand behind a wall."""
+def orders_behind(yard):
+    """Return triples of a lot of growth, of a wall, and of in how many orders just this lot stands behind the wall."""
     comers = growth(yard)
     grown = grown_counts(comers)
     rest = rest_counts(yard, comers)
-    return [(lot, grown[lot] * rest[lot | (1 << number)]) for lot in comers if number in comers[lot]]
+    return [(lot, number, grown[lot] * rest[lot | (1 << number)]) for lot in comers for number in comers[lot]]
+
+
+def place_rows(yard):
+    """Return the list, for all walls, of the lists of in how many orders they stand at each place."""
+    rows = [[0] * len(yard[1]) for _ in yard[1]]
+    for lot, number, orders in orders_behind(yard):
+        rows[number][place_ahead(yard, lot)] += orders
+    return rows
 
 
 def ratio(top, low):
     """Return the ratio of two numbers, the second of which is above 0."""
     common = gcd(top, low)
     return (top // common, low // common)
+
+
+def plus(one, other):
+    """Return the sum of two ratios."""
+    return ratio(one[0] * other[1] + other[0] * one[1], one[1] * other[1])
 
 
 def count_orders(yard):
@@ -128,10 +141,7 @@ def place_counts(yard, number):
     """Return the tuple, for each place, of in how many orders a wall stands there."""
     yard_check(yard)
     wall_check(yard, number)
-    counts = [0] * len(yard[1])
-    for lot, orders in orders_behind(yard, number):
-        counts[place_ahead(yard, lot)] += orders
-    return tuple(counts)
+    return tuple(place_rows(yard)[number])
 
 
 def mean_place(yard, number):
@@ -146,7 +156,7 @@ def ahead_chance(yard, one, other):
     """Return the part of all orders in which a wall stands ahead of another one, None if there is no order."""
     yard_check(yard)
     unlike_check(yard, one, other)
-    rows = orders_behind(yard, one)
+    rows = [(lot, orders) for lot, number, orders in orders_behind(yard) if number == one]
     total = sum(orders for _, orders in rows)
     if total == 0:
         return None

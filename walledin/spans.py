@@ -59,7 +59,7 @@ def is_span(yard, lot):
 
 def lots_of(yard, size):
     """Return the ascending list of the lots of so many walls."""
-    return list(combinations(every_number(yard), size))
+    return list(combinations(range(len(yard[1])), size))
 
 
 def spans(yard):
