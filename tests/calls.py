@@ -1,8 +1,8 @@
 """All functions of the interface, each with the kinds of its arguments, and right and wrong values of each kind."""
 
-from walledin import (counts, days, dues, lots, luck, orders, outsides, sameness, spans, traps, trees, walks, ways,
-                      windows, yards)
-from walledin.errors import BadLot, BadNumber, BadOrder, BadRoom, BadWall, BadWalls, BadYard
+from walledin import (choices, closing, counts, days, dues, growths, lots, luck, orders, outsides, rings, sameness,
+                      spans, traps, trees, walks, ways, windows, yards)
+from walledin.errors import BadLot, BadNumber, BadOrder, BadRoom, BadSides, BadWall, BadWalls, BadYard
 
 YARD = (4, ((0, 1, 0), (1, 2, 2), (0, 3, 0)))
 
@@ -121,6 +121,40 @@ CALLS = [
     (luck.least_warmth, ("yard",)),
     (luck.greatest_warmth, ("yard",)),
     (luck.cool_order, ("yard",)),
+    (growths.growth_chance, ("yard", "order")),
+    (growths.open_chance, ("yard", "any")),
+    (growths.last_chance, ("yard", "number")),
+    (growths.likeliest, ("yard",)),
+    (growths.why_not, ("yard", "order")),
+    (growths.sides_used, ("yard", "number")),
+    (choices.with_sides, ("yard", "sides")),
+    (choices.sides_of_yard, ("yard",)),
+    (choices.turned, ("yard", "lot")),
+    (choices.choices, ("yard",)),
+    (choices.count_choices, ("yard",)),
+    (choices.is_holding, ("yard", "lot")),
+    (choices.count_holding, ("yard",)),
+    (choices.chance_of_order, ("yard", "chance")),
+    (choices.fewest_changes, ("yard",)),
+    (choices.change_lots, ("yard",)),
+    (closing.cut_off, ("yard", "order", "inner")),
+    (closing.cut_times, ("yard", "order")),
+    (closing.least_cut, ("yard", "inner")),
+    (closing.greatest_cut, ("yard", "inner")),
+    (closing.cut_together, ("yard", "inner", "inner")),
+    (closing.last_cut, ("yard", "order")),
+    (closing.never_joined, ("yard",)),
+    (closing.room_gates, ("yard", "inner")),
+    (closing.rooms_between, ("yard", "inner")),
+    (rings.is_ringless, ("yard",)),
+    (rings.ringless_choices, ("yard",)),
+    (rings.count_ringless, ("yard",)),
+    (rings.is_round, ("yard",)),
+    (rings.round_rooms, ("yard",)),
+    (rings.round_choices, ("yard",)),
+    (rings.count_round, ("yard",)),
+    (rings.bridges, ("yard",)),
+    (rings.can_be_round, ("yard",)),
 ]
 
 RIGHT = {
@@ -147,6 +181,10 @@ RIGHT = {
     "windows": [((0, 2), (0, 2), (0, 2)), ((1, 0), (0, 2), (0, 2)), ((-10 ** 40, 10 ** 40), (1, 1), (-5, 2))],
     "place": [0, 2, 3, 11],
     "ends": [(0,), (3,), (0, 2), (1, 2, 3), (0, 1, 2, 3)],
+    "sides": [(0, 0, 0), (1, 0, 2), (2, 2, 1)],
+    "chance": [(0, 1), (1, 1), (1, 3), (5, 7), (10 ** 40, 10 ** 40 + 1)],
+    # A room, but not outside.
+    "inner": [1, 2, 3],
 }
 
 # None of these values is right for any argument, but for a great rank.
@@ -198,6 +236,12 @@ WRONG = {
     "place": ODD + [12, 13, (0,), (1, 2), "3", [1]],
     "ends": ODD + [(), 0, 1, (1, 0), (0, 0), (1, 1), (1, 3, 2), (4,), (0, 4), (-1, 0), "012", (0, True), (False, 1),
                    (0, 1, 2, 3, 4), [0, 1], {0: 1}, ((0, 1),)],
+    "sides": ODD + [(), 0, (0, 0), (0,) * 4, (0, 0, 3), (0, -1, 0), (0, True, 0), (False, 0, 0), (0, 0, None),
+                    ("0", 0, 0), (0, (0,), 0), "012", {0: 0, 1: 0, 2: 0}, [0, 0, 0], (0, 10 ** 40, 0), (0, [0], 0)],
+    "chance": ODD + [(), 1, (1,), (1, 2, 1), [1, 2], {0: 1, 1: 2}, "12", ("1", 2), (1, None), (1, (2,)), (1, [2]),
+                     (True, 2), (0, True), (False, 1), (0, 0), (1, 0), (0, 2), (2, 2), (2, 4), (3, 2), (-1, 2),
+                     (1, -2), (-1, -2), (0, -1), (6, 9), (10 ** 40, 10 ** 41), (10 ** 40, 1)],
+    "inner": ODD + [0, 4, 5, (1,), (1, 2), "1", [1]],
 }
 
 ERRORS = {
@@ -220,4 +264,7 @@ ERRORS = {
     "windows": BadNumber,
     "place": BadNumber,
     "ends": BadRoom,
+    "sides": BadSides,
+    "chance": BadNumber,
+    "inner": BadRoom,
 }

@@ -323,3 +323,80 @@ def rows_of_moves(yard, lot, room):
 
 def warmth(yard, order):
     return sum(len(joined(yard, order[place + 1:]) - {0}) for place in range(len(order)))
+
+
+def draws(yard, read=()):
+    """All rows of walls that are read at random, from the end, each with its chance."""
+    near = [number for number in numbers(yard) if number not in read and opens(yard, read + (number,))]
+    if not near:
+        return [(Fraction(1), read)]
+    return [(chance / len(near), row) for number in near for chance, row in draws(yard, read + (number,))]
+
+
+@lru_cache(maxsize=None)
+def has_walk(yard):
+    return any(walks(yard, order) for order in every_order(yard))
+
+
+def sided(yard, sides):
+    return (yard[0], tuple(wall[:2] + (side,) for wall, side in zip(yard[1], sides)))
+
+
+def every_choice(yard):
+    return list(product((0, 1), repeat=len(yard[1])))
+
+
+def good_choices(yard):
+    return [choice for choice in every_choice(yard) if has_walk(sided(yard, choice))]
+
+
+def used_rooms(yard):
+    """Outside and the rooms that have a wall."""
+    return {0} | {room for wall in yard[1] for room in wall[:2]}
+
+
+def holds(yard, lot):
+    return all(used_rooms(yard) <= walk_on(yard, lot, {room}, False) for room in used_rooms(yard))
+
+
+def turned(yard, lot):
+    walls = [wall[:2] + ((1, 0, 2)[wall[2]] if number in lot else wall[2],) for number, wall in enumerate(yard[1])]
+    return (yard[0], tuple(walls))
+
+
+def cut_off(yard, order, room):
+    """Behind how many walls a room is cut off: all numbers that are so by the words, 0 where none is."""
+    found = [many for many in range(1, len(order) + 1)
+             if room not in joined(yard, order[many:]) and room in joined(yard, order[many - 1:])]
+    if not found:
+        return 0
+    many, = found
+    return many
+
+
+def told_ways(yard, room):
+    """All rows of gaps from outside to a room, no room twice, from told sides, each with its rooms."""
+    return [(gaps, rooms) for gaps, rooms in free_ways(yard, room)
+            if all(rooms[at] in setting_rooms(yard[1][gap]) for at, gap in enumerate(gaps))]
+
+
+def has_ring(yard):
+    """Whether some row of gaps, each walked from a told side, leads back to its first room, no other one twice."""
+    rows = [(room, room, ()) for room in range(yard[0])]
+    while rows:
+        longer = []
+        for first, last, ahead in rows:
+            for wall in yard[1]:
+                if last in setting_rooms(wall):
+                    there = wall[0] + wall[1] - last
+                    if there == first:
+                        return True
+                    if there not in ahead:
+                        longer.append((first, there, ahead + (there,)))
+        rows = longer
+    return False
+
+
+def is_round(yard):
+    rooms = used_rooms(yard)
+    return rooms <= come(yard, numbers(yard)) and all(0 in walk_on(yard, numbers(yard), {room}, True) for room in rooms)

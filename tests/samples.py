@@ -17,6 +17,9 @@ INWARD = (2, ((0, 1, 1),))
 WIDE = (9, ((0, 8, 0), (1, 8, 1), (2, 8, 2), (3, 7, 0), (0, 7, 2)))
 FULL = (9, tuple((0, room, 0) for room in range(1, 9)) + ((1, 2, 2), (3, 4, 0), (5, 6, 1), (7, 8, 2)))
 
+DOUBLE = (4, ((1, 2, 0), (1, 2, 1), (0, 1, 2), (0, 1, 0)))
+EITHER = (3, ((0, 1, 2), (1, 2, 2)))
+
 NAMED = [EMPTY, LONE_ROOMS, LINE, BACK, STAR, RING, LONG_RING, TWICE, FAR, GAPPY, INWARD, WIDE]
 
 

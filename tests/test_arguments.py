@@ -73,7 +73,7 @@ class WrongArguments(unittest.TestCase):
         back = (3, ((0, 1, 0), (1, 2, 1)))
         right = {"yard": back, "number": 0, "other": 1, "lot": (1,), "room": 2, "order": (0, 1), "rooms": (2,),
                  "rank": 0, "side": 0, "walls": (), "row": (0, 0), "masons": 1, "days": 1, "any": None,
-                 "windows": ((0, 2), (0, 2)), "place": 0, "ends": (2,)}
+                 "windows": ((0, 2), (0, 2)), "place": 0, "ends": (2,), "sides": (0, 0), "chance": (1, 2), "inner": 2}
         for function, kinds in CALLS:
             if "tree" in kinds or "span" in kinds:
                 # This yard is no tree, and has no span.

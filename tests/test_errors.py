@@ -5,7 +5,7 @@ import unittest
 from walledin import errors
 from walledin.errors import WallError
 
-PLAIN = ["BadLot", "BadOrder", "BadRoom", "BadWall", "BadNumber", "BadWalls", "BadTree", "NotTree"]
+PLAIN = ["BadLot", "BadOrder", "BadRoom", "BadWall", "BadNumber", "BadWalls", "BadTree", "BadSides", "NotTree"]
 
 
 class Errors(unittest.TestCase):

@@ -142,6 +142,44 @@ class Examples(unittest.TestCase):
              cool_order(line)],
             [(1, 2), ((0, 0), (1, 1)), 1, 1, 1, (1, 0)])
 
+    def test_growths(self):
+        from walledin.growths import growth_chance, last_chance, likeliest, open_chance, sides_used, why_not
+        star, line = (4, ((0, 1, 0), (0, 2, 0), (0, 3, 0))), (3, ((0, 1, 0), (1, 2, 2)))
+        self.assertEqual(
+            [growth_chance(star, (2, 1, 0)), open_chance(star, (0, 1)), last_chance(line, 1), likeliest(star),
+             why_not(line, (0, 1)), sides_used(line, 1)],
+            [(1, 6), (1, 3), (1, 1), (0, 1, 2), (1, (1, 2)), (1,)])
+
+    def test_choices(self):
+        from walledin.choices import (chance_of_order, change_lots, choices, count_choices, count_holding,
+                                      fewest_changes, is_holding, sides_of_yard, turned, with_sides)
+        ring, back = (3, ((0, 1, 0), (1, 2, 0), (0, 2, 2))), (3, ((0, 1, 1), (1, 2, 0)))
+        self.assertEqual(
+            [count_choices(ring), count_holding(ring), choices(back), is_holding(ring, (0, 1)), fewest_changes(back),
+             change_lots(back), sides_of_yard(ring), turned(back, (0,)), with_sides(back, (2, 1)),
+             chance_of_order(back, (1, 3))],
+            [4, (0, 0, 3, 1), [(0, 0)], True, 1, [(0,)], (0, 0, 2), (3, ((0, 1, 0), (1, 2, 0))),
+             (3, ((0, 1, 2), (1, 2, 1))), (1, 9)])
+
+    def test_closing(self):
+        from walledin.closing import (cut_off, cut_times, cut_together, greatest_cut, last_cut, least_cut,
+                                      never_joined, room_gates, rooms_between)
+        line = (3, ((0, 1, 0), (1, 2, 0)))
+        self.assertEqual(
+            [cut_times(line, (1, 0)), cut_off(line, (0, 1), 2), last_cut(line, (1, 0)), least_cut(line, 2),
+             greatest_cut(line, 2), cut_together(line, 1, 2), never_joined((3, ((0, 1, 0),))), room_gates(line, 2),
+             rooms_between(line, 2)],
+            [(2, 1), 1, (1,), 1, 1, False, (2,), (0, 1), (1,)])
+
+    def test_rings(self):
+        from walledin.rings import (bridges, can_be_round, count_ringless, count_round, is_ringless, is_round,
+                                    ringless_choices, round_choices, round_rooms)
+        ring = (3, ((0, 1, 0), (1, 2, 0), (0, 2, 1)))
+        self.assertEqual(
+            [is_ringless(ring), is_round(ring), round_rooms(ring), count_ringless(ring), ringless_choices(ring),
+             count_round(ring), round_choices(ring), bridges(ring), can_be_round(ring)],
+            [False, True, (0, 1, 2), 2, [(0, 0, 0), (0, 1, 0)], 2, [(0, 0, 1), (1, 1, 0)], (), True])
+
 
 if __name__ == "__main__":
     unittest.main()

@@ -47,6 +47,17 @@ INTERFACE = {
                  "count_team_orders(yard, ends)", "least_teams(yard)", "fewest_masons(yard)"],
     "luck": ["first_moves(yard, room)", "luck(yard, room)", "warmth(yard, order)", "least_warmth(yard)",
              "greatest_warmth(yard)", "cool_order(yard)"],
+    "growths": ["growth_chance(yard, order)", "open_chance(yard, lot)", "last_chance(yard, number)",
+                "likeliest(yard)", "why_not(yard, order)", "sides_used(yard, number)"],
+    "choices": ["with_sides(yard, sides)", "turned(yard, lot)", "sides_of_yard(yard)", "count_holding(yard)",
+                "choices(yard)", "count_choices(yard)", "is_holding(yard, lot)", "chance_of_order(yard, chance)",
+                "fewest_changes(yard)", "change_lots(yard)"],
+    "closing": ["cut_off(yard, order, room)", "cut_times(yard, order)", "never_joined(yard)",
+                "least_cut(yard, room)", "greatest_cut(yard, room)", "cut_together(yard, one, other)",
+                "last_cut(yard, order)", "room_gates(yard, room)", "rooms_between(yard, room)"],
+    "rings": ["is_ringless(yard)", "is_round(yard)", "can_be_round(yard)", "ringless_choices(yard)",
+              "round_choices(yard)", "count_ringless(yard)", "count_round(yard)", "round_rooms(yard)",
+              "bridges(yard)"],
 }
 
 LIBRARY = {"math": {"gcd"}, "itertools": {"combinations"}}

@@ -1,6 +1,8 @@
 """What the arguments of the package's functions must be: each check raises the error of its kind of value."""
 
-from walledin.errors import BadLot, BadNumber, BadOrder, BadRoom, BadWall, BadWalls, BadYard
+from math import gcd
+
+from walledin.errors import BadLot, BadNumber, BadOrder, BadRoom, BadSides, BadWall, BadWalls, BadYard, TooMany
 
 MOST_ROOMS = 9
 MOST_WALLS = 12
@@ -81,6 +83,12 @@ def room_check(yard, room):
         raise BadRoom()
 
 
+def inner_check(yard, room):
+    """Raise BadRoom for a value that is no room, and for outside."""
+    if not within(room, 1, yard[0] - 1):
+        raise BadRoom()
+
+
 def rooms_check(yard, rooms):
     """Raise BadRoom for a value that is no rising tuple of rooms."""
     if not rises(rooms, yard[0]):
@@ -123,12 +131,33 @@ def row_check(yard, row, low, high):
         number_check(number, low, high)
 
 
-def is_window(value):
+def is_pair(value):
     """Tell whether a value is a pair of integers."""
     return isinstance(value, tuple) and len(value) == 2 and whole(value[0]) and whole(value[1])
 
 
 def windows_check(yard, windows):
     """Raise BadNumber for a value that is no tuple of a pair of integers for each wall."""
-    if not isinstance(windows, tuple) or len(windows) != len(yard[1]) or not all(is_window(item) for item in windows):
+    if not isinstance(windows, tuple) or len(windows) != len(yard[1]) or not all(is_pair(item) for item in windows):
         raise BadNumber()
+
+
+def sides_check(yard, sides):
+    """Raise BadSides for a value that is no tuple of 0, 1 or 2 for each wall."""
+    if not isinstance(sides, tuple) or len(sides) != len(yard[1]) or not all(within(side, 0, 2) for side in sides):
+        raise BadSides()
+
+
+def chance_check(chance):
+    """Raise BadNumber for a value that is no ratio from 0 to 1."""
+    if not is_pair(chance):
+        raise BadNumber()
+    top, low = chance
+    if low < 1 or not 0 <= top <= low or gcd(top, low) != 1:
+        raise BadNumber()
+
+
+def most_check(many, most):
+    """Raise TooMany for more than there may be."""
+    if many > most:
+        raise TooMany(most)

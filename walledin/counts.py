@@ -103,6 +103,36 @@ def plus(one, other):
     return ratio(one[0] * other[1] + other[0] * one[1], one[1] * other[1])
 
 
+def product_of(numbers):
+    """Return the product of some numbers."""
+    found = 1
+    for number in numbers:
+        found = found * number
+    return found
+
+
+def chance_sums(comers, shares):
+    """Return a dict of all lots of growth, each with the sum of the chances with which it grows.
+
+    The shares are a dict of pairs of a lot and of a wall that comes to it, each with the ratio of the chance of the lot
+    that goes on to the lot with that wall.
+    """
+    found = {lot: (0, 1) for lot in comers}
+    found[0] = (1, 1)
+    for lot in comers:
+        top, low = found[lot]
+        for number in comers[lot]:
+            more = lot | (1 << number)
+            share = shares[(lot, number)]
+            found[more] = plus(found[more], (top * share[0], low * share[1]))
+    return found
+
+
+def exchanged(order, place):
+    """Return an order with the wall at a place and the next one exchanged."""
+    return order[:place] + (order[place + 1], order[place]) + order[place + 2:]
+
+
 def count_orders(yard):
     """Return how many orders can be walked."""
     yard_check(yard)
@@ -167,9 +197,4 @@ def swaps(yard, order):
     """Return the rising tuple of the places whose wall can be exchanged with the next one for an order to be walked."""
     yard_check(yard)
     order_check(yard, order)
-    found = []
-    for place in range(len(order) - 1):
-        changed = order[:place] + (order[place + 1], order[place]) + order[place + 2:]
-        if is_order(yard, changed):
-            found.append(place)
-    return tuple(found)
+    return tuple(place for place in range(len(order) - 1) if is_order(yard, exchanged(order, place)))

@@ -37,6 +37,10 @@ class BadTree(WallError):
     """A lot that is no span."""
 
 
+class BadSides(WallError):
+    """A value that is no tuple of a side for each wall."""
+
+
 class BadNumber(WallError):
     """A value that is not one of the numbers that are allowed."""
 

@@ -1,7 +1,7 @@
 """Luck: how a random mason fares; and warmth: how many rooms are open while walls are set."""
 
 from walledin.checks import order_check, room_check, yard_check
-from walledin.counts import all_bits, order_grown, plus
+from walledin.counts import all_bits, chance_sums, order_grown
 from walledin.dues import cheap_comers, least_sums
 from walledin.lots import growth, lot_of
 from walledin.walks import has_walk
@@ -29,16 +29,13 @@ def luck(yard, room):
     # Only through open lots, and where outside can be walked to, the mason gets on: all such rooms have one chance,
     # as one walks from each to all sides of the walls of the lot.
     moves = {lot: len(moves_from(yard, lot_of(lot), 0)) for lot in comers}
-    chances = {lot: (0, 1) for lot in comers}
-    chances[0] = (1, 1)
+    shares = {}
     for lot in comers:
         come = rooms_come_to(yard, lot_of(lot))
-        top, low = chances[lot]
         for number in comers[lot]:
-            more = lot | (1 << number)
             good = [side for side in sides_of(yard[1][number]) if side in come]
-            chances[more] = plus(chances[more], (top * len(good), low * moves[more]))
-    return chances[all_bits(yard)]
+            shares[(lot, number)] = (len(good), moves[lot | (1 << number)])
+    return chance_sums(comers, shares)[all_bits(yard)]
 
 
 def warmth(yard, order):

@@ -1,8 +1,7 @@
 """Yards that leave the same orders, and what changes with other sides, more walls or fewer."""
 
-from walledin.checks import MOST_WALLS, number_check, wall_check, walls_check, yard_check
+from walledin.checks import MOST_WALLS, most_check, number_check, wall_check, walls_check, yard_check
 from walledin.counts import count_orders
-from walledin.errors import TooMany
 from walledin.lots import open_lots
 from walledin.orders import has_order
 from walledin.traps import least_traps
@@ -59,8 +58,7 @@ def added(yard, walls):
     """Return the yard with some walls behind its own."""
     yard_check(yard)
     walls_check(yard, walls)
-    if len(yard[1]) + len(walls) > MOST_WALLS:
-        raise TooMany(MOST_WALLS)
+    most_check(len(yard[1]) + len(walls), MOST_WALLS)
     return (yard[0], yard[1] + walls)
 
 

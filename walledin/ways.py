@@ -1,7 +1,6 @@
 """Ways to walls from outside, the times of walls, and which walls are always ahead of others."""
 
-from walledin.checks import unlike_check, wall_check, yard_check
-from walledin.errors import TooMany
+from walledin.checks import most_check, unlike_check, wall_check, yard_check
 from walledin.lots import all_gaps, heart
 from walledin.orders import has_order
 from walledin.yards import every_number, sides_of, told_steps, without
@@ -37,8 +36,7 @@ def ways(yard, number):
     yard_check(yard)
     wall_check(yard, number)
     found = every_way(yard, number)
-    if len(found) > MOST_WAYS:
-        raise TooMany(MOST_WAYS)
+    most_check(len(found), MOST_WAYS)
     return found
 
 

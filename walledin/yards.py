@@ -32,6 +32,14 @@ def with_side(yard, number, side):
     return (yard[0], yard[1][:number] + ((low, high, side),) + yard[1][number + 1:])
 
 
+def other_way(wall):
+    """Return a wall that may be set from the other side instead, where it may be set from one side."""
+    low, high, side = wall
+    if side == 2:
+        return wall
+    return (low, high, 1 - side)
+
+
 def told_steps(yard, lot):
     """Return the pairs (here, there) of rooms for the gaps of a lot, each gap from its wall's sides alone."""
     steps = []
