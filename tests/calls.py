@@ -1,8 +1,9 @@
 """All functions of the interface, each with the kinds of its arguments, and right and wrong values of each kind."""
 
-from walledin import (choices, closing, counts, days, dues, growths, lots, luck, orders, outsides, rings, sameness,
-                      spans, traps, trees, walks, ways, windows, yards)
-from walledin.errors import BadLot, BadNumber, BadOrder, BadRoom, BadSides, BadWall, BadWalls, BadYard
+from walledin import (choices, closing, counts, days, dues, duels, glue, growths, likes, lots, luck, orders, outsides,
+                      rings, sameness, sites, spans, texts, traps, trees, walks, ways, windows, yards)
+from walledin.errors import (BadLot, BadNumber, BadOrder, BadRoom, BadSides, BadWall, BadWalls, BadYard, InvalidText,
+                             NotText)
 
 YARD = (4, ((0, 1, 0), (1, 2, 2), (0, 3, 0)))
 
@@ -155,6 +156,31 @@ CALLS = [
     (rings.count_round, ("yard",)),
     (rings.bridges, ("yard",)),
     (rings.can_be_round, ("yard",)),
+    (duels.builder_wins, ("limited", "mover")),
+    (duels.good_starts, ("limited", "mover")),
+    (duels.duel_table, ("limited",)),
+    (texts.write_yard, ("yard",)),
+    (texts.read_yard, ("text",)),
+    (texts.write_order, ("yard", "order")),
+    (texts.read_order, ("yard", "order_text")),
+    (glue.beside, ("yard", "yard")),
+    (glue.onto, ("yard", "yard", "room")),
+    (glue.renamed, ("yard", "names")),
+    (glue.parts, ("yard",)),
+    (glue.part_yards, ("yard",)),
+    (likes.alike, ("limited", "limited")),
+    (likes.symmetries, ("limited",)),
+    (likes.classes, ("limited",)),
+    (likes.fixed_rooms, ("limited",)),
+    (likes.count_alike, ("limited",)),
+    (likes.first_like, ("limited",)),
+    (likes.swaps_between, ("yard", "order", "order")),
+    (likes.unlike_pairs, ("yard", "order", "order")),
+]
+
+# A site is no value that equals another one, so it stands apart.
+CLASSES = [
+    (sites.Site, ("yard", "room")),
 ]
 
 RIGHT = {
@@ -185,6 +211,12 @@ RIGHT = {
     "chance": [(0, 1), (1, 1), (1, 3), (5, 7), (10 ** 40, 10 ** 40 + 1)],
     # A room, but not outside.
     "inner": [1, 2, 3],
+    # A yard with few rooms or walls.
+    "limited": [YARD, (6, YARD[1]), (1, ())],
+    "mover": [0, 1],
+    "text": ["1:", "9:", "4:0<1 1=2 0<3", "9:7=8 0>8"],
+    "order_text": ["0,1,2", "1,2,0", "2,0,1"],
+    "names": [(1, 2, 3), (3, 1, 2), (2, 1, 3)],
 }
 
 # None of these values is right for any argument, but for a great rank.
@@ -242,6 +274,15 @@ WRONG = {
                      (True, 2), (0, True), (False, 1), (0, 0), (1, 0), (0, 2), (2, 2), (2, 4), (3, 2), (-1, 2),
                      (1, -2), (-1, -2), (0, -1), (6, 9), (10 ** 40, 10 ** 41), (10 ** 40, 1)],
     "inner": ODD + [0, 4, 5, (1,), (1, 2), "1", [1]],
+    "limited": ODD + [yard for yard, _ in WRONG_YARDS],
+    "mover": ODD + [2, 3, -2, (0,), (1,), "1", [0]],
+    "text": ODD + [0, 1, ("1:",), ["1:"], ("3:0<1",), {"1:": 0}, "1", ":", "1", "0:", "1: ", "3:0<1 ", "3:1<0",
+                   "3:0<3", "3:0-1", "3;0<1", "10:", "1:" * 51, "3:" + " " * 99, "3:0<1" + " 0<1" * 12],
+    "order_text": ODD + [0, 1, (0, 1, 2), ("0,1,2",), ["0,1,2"], {"0,1,2": 0}, "012", "0,1,1", "0,1,3", "0,1,2,",
+                         ",0,1,2", "00,1,2", "0 ,1,2", "0;1;2", "-0,1,2", "0,1,2" * 21, "0" * 101],
+    "names": ODD + [(), 1, (1,), (2, 3), (0, 1, 2), (1, 2, 4), (1, 1, 2), (1, 2, 2), (1, 2, 3, 4), (0, 1, 2, 3),
+                    (True, 2, 3), (1, 2, None), (1, "2", 3), (1, (2,), 3), (1, [2], 3), [1, 2, 3], "123",
+                    {1: 1, 2: 2, 3: 3}, (-1, 1, 2), (1, 2, 10 ** 40)],
 }
 
 ERRORS = {
@@ -267,4 +308,16 @@ ERRORS = {
     "sides": BadSides,
     "chance": BadNumber,
     "inner": BadRoom,
+    "limited": BadYard,
+    "mover": BadNumber,
+    "text": NotText,
+    "order_text": NotText,
+    "names": BadRoom,
 }
+
+
+def error_for(kind, value):
+    """The error that a wrong value of a kind raises."""
+    if ERRORS[kind] is NotText and isinstance(value, str) and len(value) <= 100:
+        return InvalidText
+    return ERRORS[kind]

@@ -3,6 +3,8 @@
 Nothing here uses the program. Everything takes right arguments only.
 """
 
+import re
+from collections import Counter
 from fractions import Fraction
 from functools import lru_cache
 from itertools import combinations, permutations, product
@@ -400,3 +402,135 @@ def has_ring(yard):
 def is_round(yard):
     rooms = used_rooms(yard)
     return rooms <= come(yard, numbers(yard)) and all(0 in walk_on(yard, numbers(yard), {room}, True) for room in rooms)
+
+
+def builder_wins(yard, sides, turn):
+    """Whether player 0 wins if the player whose turn it is goes on; sides not yet chosen are None."""
+    if None not in sides:
+        return has_walk(sided(yard, sides))
+    results = []
+    for number in numbers(yard):
+        if sides[number] is None:
+            for side in (0, 1):
+                results.append(builder_wins(yard, sides[:number] + (side,) + sides[number + 1:], 1 - turn))
+    return any(results) if turn == 0 else all(results)
+
+
+def is_yard_text(text):
+    if not re.fullmatch("[1-9]:([0-8][<>=][0-8]( [0-8][<>=][0-8]){0,11})?", text, re.ASCII):
+        return False
+    return all(int(wall[0]) < int(wall[2]) < int(text[0]) for wall in text[2:].split())
+
+
+# Whatever can become the text of a yard does so with one of these behind it.
+ENDS = [""] + ["1:", ":"] + [str(room) for room in range(9)] + [f"<{room}" for room in range(9)] + [
+    f"{low}<{high}" for low in range(9) for high in range(low + 1, 9)]
+
+
+def wrong_place(text):
+    """The place of the first sign with which a text can no more become one of a yard, None for one of a yard."""
+    if is_yard_text(text):
+        return None
+    for place in range(len(text)):
+        if not any(is_yard_text(text[:place + 1] + end) for end in ENDS):
+            return place
+    return len(text)
+
+
+def wrong_place_of_order(text, many):
+    """Where the text of an order of so many walls is wrong, None if it is right."""
+    seen = []
+    place = 0
+    while len(seen) < many:
+        word = re.match("[0-9]*", text[place:]).group()
+        if word == "" or str(int(word)) != word or int(word) >= many or word in seen:
+            return place
+        seen.append(word)
+        place += len(word)
+        if len(seen) < many:
+            if not text[place:].startswith(","):
+                return place
+            place += 1
+    return None if text[place:] == "" else place
+
+
+@lru_cache(maxsize=None)
+def finishes(yard, lot, room):
+    """Whether a mason in a room can set all walls of a lot, whose gaps alone are open, and stand outside at last."""
+    if not lot:
+        return room == 0
+    return any(finishes(yard, tuple(other for other in lot if other != number), side)
+               for number, side in moves(yard, lot, room))
+
+
+def safe(yard, lot, room):
+    found = {number for number, side in moves(yard, lot, room)
+             if finishes(yard, tuple(other for other in lot if other != number), side)}
+    return tuple(sorted(found))
+
+
+def parts(yard):
+    """The lots of walls that hang together through rooms but outside: two are joined as long as they share a room."""
+    groups = [{number} for number in numbers(yard)]
+
+    def rooms(group):
+        return {room for number in group for room in yard[1][number][:2]} - {0}
+
+    while True:
+        pairs = [(one, other) for one, other in combinations(groups, 2) if rooms(one) & rooms(other)]
+        if not pairs:
+            return tuple(sorted(tuple(sorted(group)) for group in groups))
+        one, other = pairs[0]
+        groups = [group for group in groups if group not in pairs[0]] + [one | other]
+
+
+def told(yard, names):
+    """The walls with other names of their rooms, without an order of the rooms: a set of rooms, and the told ones."""
+    return [(frozenset(names[room] for room in wall[:2]), frozenset(names[room] for room in setting_rooms(wall)))
+            for wall in yard[1]]
+
+
+def walls_of(rows):
+    """What told tells, as walls again."""
+    found = []
+    for rooms, near in rows:
+        low, high = sorted(rooms)
+        found.append((low, high, 2 if len(near) == 2 else int(high in near)))
+    return found
+
+
+def every_names(yard):
+    return [(0,) + names for names in permutations(range(1, yard[0]))]
+
+
+def alike(one, other):
+    same = Counter(told(other, range(other[0])))
+    return one[0] == other[0] and any(Counter(told(one, names)) == same for names in every_names(one))
+
+
+def symmetries(yard):
+    same = Counter(told(yard, range(yard[0])))
+    return [names[1:] for names in every_names(yard) if Counter(told(yard, names)) == same]
+
+
+def every_like(yard):
+    """All tuples of walls, in all orders, of the yards that are alike."""
+    return {walls for names in every_names(yard) for walls in permutations(walls_of(told(yard, names)))}
+
+
+def exchanges(one, others):
+    """A dict of the orders, of some, that exchanges of neighbors make of one, each with how few do."""
+    found = {one: 0}
+    row = [one]
+    while row:
+        behind = []
+        for order in row:
+            for place in range(len(order) - 1):
+                changed = list(order)
+                changed[place], changed[place + 1] = changed[place + 1], changed[place]
+                changed = tuple(changed)
+                if changed in others and changed not in found:
+                    found[changed] = found[order] + 1
+                    behind.append(changed)
+        row = behind
+    return found

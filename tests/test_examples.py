@@ -2,7 +2,7 @@
 
 import unittest
 
-from walledin.errors import BadYard
+from walledin.errors import BadYard, InvalidText
 
 
 class Examples(unittest.TestCase):
@@ -179,6 +179,49 @@ class Examples(unittest.TestCase):
             [is_ringless(ring), is_round(ring), round_rooms(ring), count_ringless(ring), ringless_choices(ring),
              count_round(ring), round_choices(ring), bridges(ring), can_be_round(ring)],
             [False, True, (0, 1, 2), 2, [(0, 0, 0), (0, 1, 0)], 2, [(0, 0, 1), (1, 1, 0)], (), True])
+
+    def test_duels(self):
+        from walledin.duels import builder_wins, duel_table, good_starts
+        self.assertEqual(
+            [builder_wins((2, ((0, 1, 0),)), 1), good_starts((2, ((0, 1, 0),)), 0),
+             duel_table((2, ((0, 1, 0), (0, 1, 0))))],
+            [False, ((0, 0),), (True, True)])
+
+    def test_texts(self):
+        from walledin.texts import read_order, read_yard, write_order, write_yard
+        ring = (3, ((0, 1, 0), (1, 2, 1), (0, 2, 2)))
+        self.assertEqual(
+            [write_yard(ring), read_yard("3:0<1 1>2 0=2"), write_order(ring, (2, 0, 1)), read_order(ring, "2,0,1"),
+             read_yard("1:")],
+            ["3:0<1 1>2 0=2", (3, ((0, 1, 0), (1, 2, 1), (0, 2, 2))), "2,0,1", (2, 0, 1), (1, ())])
+        with self.assertRaises(InvalidText) as caught:
+            read_yard("3:0<3")
+        self.assertEqual(caught.exception.place, 4)
+
+    def test_sites(self):
+        from walledin.sites import Site
+        site = Site((4, ((0, 1, 0), (1, 2, 2))), 1)
+        self.assertEqual(
+            [site.safe(), site.put(1), site.done, site.can_finish(), site.walk(0), site.put(0), site.gaps,
+             site.can_finish(), site.undo(), site.room, site.undoable],
+            [(1,), None, (1,), True, None, None, (), True, None, 0, 2])
+
+    def test_glue(self):
+        from walledin.glue import beside, onto, part_yards, parts, renamed
+        line = (3, ((0, 1, 0), (1, 2, 0)))
+        self.assertEqual(
+            [beside(line, (2, ((0, 1, 1),))), onto(line, (2, ((0, 1, 2),)), 2), renamed(line, (2, 1)),
+             parts((3, ((0, 1, 0), (0, 2, 0)))), part_yards((4, ((1, 3, 0),)))],
+            [(4, ((0, 1, 0), (1, 2, 0), (0, 3, 1))), (4, ((0, 1, 0), (1, 2, 0), (2, 3, 2))),
+             (3, ((0, 2, 0), (1, 2, 1))), ((0,), (1,)), ((3, ((1, 2, 0),)),)])
+
+    def test_likes(self):
+        from walledin.likes import (alike, classes, count_alike, first_like, swaps_between, symmetries, unlike_pairs)
+        star, line = (3, ((0, 1, 0), (0, 2, 0))), (3, ((0, 2, 0), (1, 2, 1)))
+        self.assertEqual(
+            [symmetries(star), classes(star), count_alike(star), count_alike(line), alike(star, line),
+             first_like(line), swaps_between(star, (0, 1), (1, 0)), unlike_pairs(star, (0, 1), (1, 0))],
+            [[(1, 2), (2, 1)], ((0,), (1, 2)), 1, 2, False, (3, ((0, 1, 0), (1, 2, 0))), 1, 1])
 
 
 if __name__ == "__main__":

@@ -58,9 +58,18 @@ INTERFACE = {
     "rings": ["is_ringless(yard)", "is_round(yard)", "can_be_round(yard)", "ringless_choices(yard)",
               "round_choices(yard)", "count_ringless(yard)", "count_round(yard)", "round_rooms(yard)",
               "bridges(yard)"],
+    "duels": ["builder_wins(yard, mover)", "good_starts(yard, mover)", "duel_table(yard)"],
+    "texts": ["write_yard(yard)", "write_order(yard, order)", "read_yard(text)", "read_order(yard, text)"],
+    "glue": ["beside(one, other)", "onto(one, other, room)", "renamed(yard, rooms)", "parts(yard)",
+             "part_yards(yard)"],
+    "likes": ["alike(one, other)", "count_alike(yard)", "symmetries(yard)", "classes(yard)", "fixed_rooms(yard)",
+              "first_like(yard)", "swaps_between(yard, one, other)", "unlike_pairs(yard, one, other)"],
 }
 
-LIBRARY = {"math": {"gcd"}, "itertools": {"combinations"}}
+SITE = ["__init__(self, yard, room)", "walk(self, room)", "put(self, number)", "undo(self)", "can_finish(self)",
+        "safe(self)"]
+
+LIBRARY = {"math": {"factorial", "gcd"}, "itertools": {"combinations", "permutations"}}
 
 
 def trees():
@@ -87,6 +96,17 @@ class Interface(unittest.TestCase):
                 self.assertEqual(function.__module__, module.__name__)
                 self.assertEqual(function.__name__ + str(inspect.signature(function)), row)
 
+    def test_site(self):
+        module = import_module("walledin.sites")
+        kept = vars(module.Site)
+        self.assertEqual([module.Site.__module__, str(inspect.signature(module.Site))],
+                         [module.__name__, "(yard, room)"])
+        for row in SITE:
+            function = kept[row.partition("(")[0]]
+            self.assertEqual(function.__name__ + str(inspect.signature(function)), row)
+        for name in ("gaps", "done", "room", "undoable"):
+            self.assertIsInstance(kept[name], property)
+
 
 class Files(unittest.TestCase):
     def test_folder(self):
@@ -108,7 +128,8 @@ class Files(unittest.TestCase):
             for node in ast.walk(tree):
                 if isinstance(node, ast.FunctionDef):
                     self.assertLessEqual(node.end_lineno - node.lineno, 39, f"{path.name}: {node.name}")
-                    self.assertFalse(node.decorator_list, f"{path.name}: {node.name}")
+                    names = [part.id for part in node.decorator_list]
+                    self.assertIn(names, ([], ["property"]), f"{path.name}: {node.name}")
 
     def test_imports(self):
         for path, tree in trees():

@@ -2,10 +2,12 @@
 
 from math import gcd
 
-from walledin.errors import BadLot, BadNumber, BadOrder, BadRoom, BadSides, BadWall, BadWalls, BadYard, TooMany
+from walledin.errors import (BadLot, BadNumber, BadOrder, BadRoom, BadSides, BadWall, BadWalls, BadYard, NotText,
+                             TooMany)
 
 MOST_ROOMS = 9
 MOST_WALLS = 12
+MOST_SIGNS = 100
 
 
 def whole(value):
@@ -102,12 +104,20 @@ def ends_check(yard, ends):
         raise BadRoom()
 
 
+def is_row_of(value, numbers):
+    """Tell whether a value is a tuple of some ascending integers, each once, in any order."""
+    return isinstance(value, tuple) and all(whole(item) for item in value) and sorted(value) == numbers
+
+
+def names_check(yard, rooms):
+    """Raise BadRoom for a value that is no tuple of all rooms but outside, each once."""
+    if not is_row_of(rooms, list(range(1, yard[0]))):
+        raise BadRoom()
+
+
 def order_check(yard, order):
     """Raise BadOrder for a value that is no order."""
-    many = len(yard[1])
-    if not isinstance(order, tuple) or not all(within(number, 0, many - 1) for number in order):
-        raise BadOrder()
-    if sorted(order) != list(range(many)):
+    if not is_row_of(order, list(range(len(yard[1])))):
         raise BadOrder()
 
 
@@ -161,3 +171,9 @@ def most_check(many, most):
     """Raise TooMany for more than there may be."""
     if many > most:
         raise TooMany(most)
+
+
+def text_check(text):
+    """Raise NotText for a value that is no string of at most so many signs."""
+    if not isinstance(text, str) or len(text) > MOST_SIGNS:
+        raise NotText()

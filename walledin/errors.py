@@ -55,3 +55,23 @@ class TooMany(WallError):
 
 class NotTree(WallError):
     """A yard that is no tree."""
+
+
+class NotText(WallError):
+    """A value that is no string, or one that is too long."""
+
+
+class InvalidText(WallError):
+    """A text of no yard, or of no order: place tells its first wrong sign, its length if it ends too early."""
+
+    def __init__(self, place):
+        WallError.__init__(self, f"wrong from place {place} on")
+        self.place = place
+
+
+class CannotSet(WallError):
+    """A wall that is set already, or may not be set from where the mason stands."""
+
+
+class NothingToUndo(WallError):
+    """No step that could be taken back."""
